@@ -1,0 +1,1 @@
+"""Termsonwires: formats as terms, read bit by bit."""
