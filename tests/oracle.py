@@ -218,3 +218,43 @@ def all_bits(most):
 def sample_sheets(seed, many, **kind):
     chance = random.Random(seed)
     return [random_sheet(chance, **kind) for _ in range(many)]
+
+
+def ringed_term(chance, names, depth, guarded, flat_only=False):
+    """A term whose refs stand behind some bit, so that rings are seldom bare; inside of checks there are none."""
+    refs = names if guarded and not flat_only else []
+    kinds = ["bits", "width", "table"] + ["ref"] * 3 * bool(refs)
+    if depth > 1:
+        kinds = ["row"] * 3 + ["either"] * 3 + ["counted", "sized", "until", "times", "checked"] + ["ref"] * 4 * bool(refs)
+    kind = chance.choice(kinds)
+    if kind == "ref":
+        return ("ref", chance.choice(refs))
+    if kind == "bits":
+        return ("bits", random_bits(chance, 0, 2))
+    if kind == "width":
+        return ("width", chance.randint(0, 1))
+    if kind == "table":
+        return ("table", tuple(zip("abcd", prefix_free(chance, 3, 2))))
+    inner = lambda safe, flat=flat_only: ringed_term(chance, names, depth - 1, safe, flat)
+    if kind == "row":
+        parts = []
+        for _ in range(chance.randint(1, 3)):
+            parts.append(inner(guarded or any(part[0] in ("width", "bits") and part[1] for part in parts)))
+        return ("row", tuple(parts))
+    if kind == "either":
+        codes = prefix_free(chance, 3, 2)
+        return ("either", tuple((label, code, inner(guarded or code != "")) for label, code in zip("xyz", codes)))
+    if kind in ("counted", "sized"):
+        number = random_number(chance, 8 if kind == "counted" else 40, True)
+        return (kind, number, inner(guarded or number in [("width", 1), ("width", 2), ("width", 3)]))
+    if kind == "until":
+        return ("until", random_bits(chance, 1, 3), inner(guarded))
+    if kind == "times":
+        return ("times", chance.randint(0, 2), inner(guarded))
+    return ("checked", random_machine(chance), inner(guarded, True))
+
+
+def ringed_sheet(chance, entries=3, depth=4):
+    names = ["a", "b", "c", "d"][:chance.randint(1, entries)]
+    rows = tuple((name, ringed_term(chance, names, chance.randint(2, depth), False)) for name in names)
+    return (chance.choice(names), rows)
