@@ -36,7 +36,7 @@ class Firsts:
         return self.of_words([start.ljust(many, "0")])
 
     def either_of(self, one, other):
-        return self.of_words([*one.values(), *other.values()])
+        return self.of_words(list(one.values()) + list(other.values()))
 
     def chained(self, one, other):
         """Each of the one with each of the other behind it; lengths are looked at first, for words may be long."""

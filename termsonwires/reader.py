@@ -34,7 +34,7 @@ class Reader(Solver):
         self.sets = table.sets
         self.full = table.full
         self.bits = bits
-        self.behind = {}
+        self.tails = {}
 
     def attempt(self, key):
         node, at = key
@@ -56,9 +56,9 @@ class Reader(Solver):
 
     def words_behind(self, node, parts):
         """For each k the words of all parts of the row from k on."""
-        if node not in self.behind:
-            self.behind[node] = suffixes(self.sets, [self.full[part] for part in parts])
-        return self.behind[node][-1 - len(parts):]
+        if node not in self.tails:
+            self.tails[node] = suffixes(self.sets, [self.full[part] for part in parts])
+        return self.tails[node][-1 - len(parts):]
 
     def row_cell(self, at, start, parts, behind):
         """The cell at `at` of parts one behind the other from `start` on; None if a cell is wanted for it."""
