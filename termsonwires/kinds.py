@@ -83,7 +83,3 @@ def is_plain(value):
 def is_ascending(row):
     """Duplicates are not ascending."""
     return all([row[k] < row[k + 1] for k in range(len(row) - 1)])
-
-
-def begin_each_other(one, other):
-    return one.startswith(other) or other.startswith(one)

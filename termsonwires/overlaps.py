@@ -29,7 +29,7 @@ def empty_atoms(rows):
     return found
 
 
-def if_any(thing, *parts):
+def if_any(thing, parts):
     """The thing as one with the empty word, if all of its parts have such a one."""
     return {ANY: thing} if all([ANY in part for part in parts]) else {}
 
@@ -68,11 +68,11 @@ def empty_things(nodes, found, node):
     if word == "bits":
         return {ANY: ()} if term[1] == "" else {}
     if word == "row":
-        return if_any(tuple([part.get(ANY) for part in parts]), *parts)
+        return if_any(tuple([part.get(ANY) for part in parts]), parts)
     if word == "either":
         return empty_way(term, parts)
     if word == "times":
-        return {ANY: ()} if term[1] == 0 else if_any((parts[0].get(ANY),) * term[1], parts[0])
+        return {ANY: ()} if term[1] == 0 else if_any((parts[0].get(ANY),) * term[1], parts)
     if word == "counted":
         return empty_counted(parts[0], parts[1])
     if word == "sized":

@@ -39,8 +39,8 @@ class Reader(Solver):
     def attempt(self, key):
         node, at = key
         term = self.nodes.terms[node]
-        read = READS[term[0]]
-        return read(self, node, term, at)
+        rule = RULES[term[0]]
+        return rule(self, node, term, at)
 
     def words_cell(self, pairs, at):
         """The cell of a term with just these pairs (thing, word)."""
@@ -80,36 +80,36 @@ class Reader(Solver):
         return Cell(ends, unended)
 
 
-def read_bits(reader, node, term, at):
+def bits_cell(reader, node, term, at):
     return reader.words_cell([((), term[1])], at)
 
 
-def read_table(reader, node, term, at):
+def table_cell(reader, node, term, at):
     return reader.words_cell(term[1], at)
 
 
-def read_width(reader, node, term, at):
+def width_cell(reader, node, term, at):
     digits = reader.bits[at:at + term[1]]
     if len(digits) == term[1]:
         return Cell({at + term[1]: number_of(digits)}, reader.sets.none)
     return Cell({}, reader.sets.filled(digits, term[1]))
 
 
-def read_ref(reader, node, term, at):
+def ref_cell(reader, node, term, at):
     return reader.ask((reader.nodes.targets[node], at))
 
 
-def read_row(reader, node, term, at):
+def row_term_cell(reader, node, term, at):
     parts = reader.nodes.parts[node]
     return reader.row_cell(at, at, parts, reader.words_behind(node, parts))
 
 
-def read_times(reader, node, term, at):
+def times_cell(reader, node, term, at):
     parts = reader.nodes.parts[node] * term[1]
     return reader.row_cell(at, at, parts, reader.words_behind(node, parts))
 
 
-def read_either(reader, node, term, at):
+def either_cell(reader, node, term, at):
     sets = reader.sets
     rest = reader.bits[at:]
     ends = {}
@@ -127,7 +127,7 @@ def read_either(reader, node, term, at):
     return Cell(ends, unended)
 
 
-def read_counted(reader, node, term, at):
+def counted_cell(reader, node, term, at):
     sets = reader.sets
     rest = reader.bits[at:]
     number, item = reader.nodes.parts[node]
@@ -148,7 +148,7 @@ def read_counted(reader, node, term, at):
     return found
 
 
-def read_until(reader, node, term, at):
+def until_cell(reader, node, term, at):
     """The mark and the next item may both go on here; only where the bits end can both be left."""
     sets = reader.sets
     found = reader.words_cell([((), term[1])], at)
@@ -167,7 +167,7 @@ def read_until(reader, node, term, at):
     return Cell(ends, unended)
 
 
-def read_sized(reader, node, term, at):
+def sized_cell(reader, node, term, at):
     sets = reader.sets
     rest = reader.bits[at:]
     number, inner = reader.nodes.parts[node]
@@ -188,7 +188,7 @@ def read_sized(reader, node, term, at):
     return Cell(ends, joined(sets, rows))
 
 
-def read_checked(reader, node, term, at):
+def checked_cell(reader, node, term, at):
     sets = reader.sets
     inner = reader.ask((reader.nodes.parts[node][0], at))
     if inner is None:
@@ -203,16 +203,16 @@ def read_checked(reader, node, term, at):
     return Cell(ends, unended)
 
 
-READS = {
-    "bits": read_bits,
-    "table": read_table,
-    "width": read_width,
-    "row": read_row,
-    "either": read_either,
-    "times": read_times,
-    "counted": read_counted,
-    "until": read_until,
-    "sized": read_sized,
-    "checked": read_checked,
-    "ref": read_ref,
+RULES = {
+    "bits": bits_cell,
+    "table": table_cell,
+    "width": width_cell,
+    "row": row_term_cell,
+    "either": either_cell,
+    "times": times_cell,
+    "counted": counted_cell,
+    "until": until_cell,
+    "sized": sized_cell,
+    "checked": checked_cell,
+    "ref": ref_cell,
 }
