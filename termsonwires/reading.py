@@ -15,21 +15,23 @@ def root_cell(table, bits, at):
     return Reader(table, bits).solve((table.nodes.root, at))
 
 
-def is_alive(table, bits, at):
-    """Whether a word of the sheet begins with the bits from the index at on, or begins them."""
-    cell = root_cell(table, bits, at)
-    return len(cell.ends) > 0 or cell.unended != table.sets.none
+def goes_on(table, bits, at):
+    """Whether the bits from the index at on begin a longer word."""
+    return root_cell(table, bits, at).unended != table.sets.none
 
 
 def death(table, bits, at):
-    """The index of the answer ("dead", index): bits that begin a word are halved in from those that begin none."""
+    """The index of the answer ("dead", index): bits that begin a word are halved in from those that begin none.
+
+    No word begins the bits here, so none of their beginnings is a whole word.
+    """
     if table.full[table.nodes.root] == table.sets.none:
         return at
     alive = at
     dead = len(bits)
     while dead - alive > 1:
         middle = (alive + dead) // 2
-        if is_alive(table, bits[:middle], at):
+        if goes_on(table, bits[:middle], at):
             alive = middle
         else:
             dead = middle

@@ -60,7 +60,7 @@ class Scanner:
         """A text of at most so many signs between two quotes."""
         self.read_sign("'")
         start = self.at
-        while self.at - start < most and self.ahead() != "" and is_sign(self.ahead()):
+        while self.at - start < most and is_sign(self.ahead()):
             self.at += 1
         self.read_sign("'")
         return self.text[start:self.at - 1]
@@ -97,7 +97,7 @@ class Scanner:
                     return value
                 around[-1].append(value)
                 self.read_sign(",")
-            while around and self.comes(")"):
+            while self.comes(")"):
                 self.read_sign(")")
                 value = tuple(around.pop())
                 if not around:

@@ -154,6 +154,25 @@ class FaultsTest(unittest.TestCase):
         self.assertIsNone(overlap(either, ("m", ())))
         self.assertEqual(faults(either), [("m", (), "tags")])
 
+    def test_overlaps_by_the_empty_word(self):
+        none, width = ("table", ()), ("width", 0)
+        for item in [
+            EMPTY, width, ("table", (("c", ""),)), ("table", ((-1, ""),)), ("row", ()),
+            ("row", (EMPTY, width)), ("either", (("x", "", EMPTY),)), ("either", (("x", "", ("row", (width, width))),)), ("times", 0, none),
+            ("times", 3, width), ("counted", width, none), ("counted", ("table", ((3, ""),)), width), ("counted", ("table", ((1, ""),)), EMPTY),
+            ("sized", width, EMPTY), ("sized", width, ("table", ((7, ""),))), ("counted", ("sized", width, ("table", ((2, ""),))), EMPTY),
+            ("counted", ("ref", "n"), EMPTY), ("ref", "n"), ("sized", ("sized", width, width), ("row", (width,))),
+        ]:
+            sheet = one(("until", "1", item), ("n", ("sized", ("width", 0), ("table", ((4, ""),)))))
+            self.assertEqual(faults(sheet), [("m", (), "empty")], item)
+            pair = overlap(sheet, ("m", ()))
+            self.assertIs(is_overlap(sheet, ("m", ()), pair), True, (item, pair))
+        looped = one(("until", "1", ("ref", "n")), ("n", ("either", (("x", "", ("ref", "n")),))))
+        self.assertEqual(faults(looped), [("n", (0,), "loop")])
+        both = one(("until", "1", ("ref", "n")), ("n", ("row", (("times", 0, ("ref", "n")), ("times", 2, width)))))
+        self.assertEqual(faults(both), [("m", (), "empty"), ("n", (0, 0), "loop")])
+        self.assertIs(is_overlap(both, ("m", ()), overlap(both, ("m", ()))), True)
+
     def test_overlaps_with_long_words(self):
         long = one(("until", "1", ("row", (("bits", "1"), ("times", 8, ("times", 8, ("times", 8, ("bits", "0"))))))))
         pair = overlap(long, ("m", ()))

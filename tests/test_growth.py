@@ -66,6 +66,21 @@ class GrowthTest(unittest.TestCase):
         self.assertEqual(found[-1], ("b", ()))
         self.assertEqual(found.count(("b", ())), 2)
 
+    def test_rings_without_words_do_not_grow(self):
+        sheet = one(("either", (("a", "0", EMPTY), ("b", "1", ("ref", "n")))), ("n", ("row", (("bits", "1"), ("ref", "n")))))
+        ring = [("m", ()), ("m", (1,)), ("n", ()), ("n", (1,)), ("n", ())]
+        self.assertIs(is_growth(sheet, ring), False)
+        self.stays(sheet, 1)
+
+    def test_ceilings_beside_rings(self):
+        back = ("either", (("x", "0", ("bits", "00")), ("y", "1", ("times", 0, ("ref", "a")))))
+        sheet = ("a", (("a", ("row", (("ref", "b"), ("bits", "1")))), ("b", ("row", (("bits", "0"), ("ref", "c")))), ("c", back)))
+        self.stays(sheet, 5)
+        self.assertEqual(ceiling(sheet), [("a", 5), ("b", 4), ("c", 3)])
+        wordless = ("a", (("a", ("row", (("ref", "b"), ("bits", "1")))), ("b", ("counted", ("table", ((0, "01"),)), ("ref", "a")))))
+        self.stays(wordless, 3)
+        self.assertEqual(ceiling(wordless), [("a", 3), ("b", 2)])
+
     def test_no_growths(self):
         tree = [("tree", ()), ("tree", (1,)), ("tree", (1, 0)), ("tree", ())]
         self.assertIs(is_growth(TREE, tree), True)
