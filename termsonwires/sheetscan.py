@@ -22,13 +22,13 @@ def scan_ref(scanner, depth):
     return ("ref", scanner.read_name())
 
 
-def scan_listed(scanner, brackets, most, one):
-    """The tuple of what one(scanner) reads again and again, between two brackets."""
+def scan_listed(scanner, brackets, has_room, one):
+    """The tuple of what one(scanner) reads again and again, between two brackets; without room it is empty."""
     scanner.read_sign(brackets[0])
     rows = []
-    if most > 0 and not scanner.comes(brackets[1]):
+    if has_room and not scanner.comes(brackets[1]):
         rows.append(one(scanner))
-        while len(rows) < most and scanner.comes(","):
+        while scanner.comes(","):
             scanner.read_word(", ")
             rows.append(one(scanner))
     scanner.read_sign(brackets[1])
@@ -57,23 +57,16 @@ def scan_machine_row(scanner):
     return (zero, one, scanner.read_bits(1, MOST_CHECK))
 
 
-def most_parts(scanner, depth):
-    """Where no part can stand any more there is room for none; otherwise the text bounds their number."""
-    return len(scanner.text) if depth > 1 else 0
-
-
 def scan_table(scanner, depth):
-    return ("table", scan_listed(scanner, "[]", len(scanner.text), scan_table_row))
+    return ("table", scan_listed(scanner, "[]", True, scan_table_row))
 
 
 def scan_row(scanner, depth):
-    many = most_parts(scanner, depth)
-    return ("row", scan_listed(scanner, "()", many, lambda inner: scan_term(inner, depth - 1)))
+    return ("row", scan_listed(scanner, "()", depth > 1, lambda inner: scan_term(inner, depth - 1)))
 
 
 def scan_either(scanner, depth):
-    many = most_parts(scanner, depth)
-    return ("either", scan_listed(scanner, "{}", many, lambda inner: scan_way(inner, depth - 1)))
+    return ("either", scan_listed(scanner, "{}", depth > 1, lambda inner: scan_way(inner, depth - 1)))
 
 
 def scan_times(scanner, depth):

@@ -103,11 +103,10 @@ def whole_word(term, thing, words):
 def trail_on(nodes, frame, node, thing):
     """The trail of a part; None if it comes to a ref a second time with the same thing.
 
-    An integer keeps its trail along the numbers, too, for these can lead back to it; any other thing is met again
-    only where it is handed on whole.
+    The trail goes on where a thing is handed on whole, and to the numbers of sized terms: from the one integer
+    these can lead to another one and back.
     """
-    word = nodes.terms[frame.node][0]
-    trail = frame.trail if word in ("ref", "sized", "checked") or is_integer(frame.thing) else ()
+    trail = frame.trail if nodes.terms[frame.node][0] in ("ref", "sized", "checked") else ()
     if nodes.terms[node][0] != "ref":
         return trail
     step = (node, thing if is_integer(thing) else None)

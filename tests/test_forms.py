@@ -99,6 +99,13 @@ class TermsTest(unittest.TestCase):
         for name in ["", "A", "1a", "_a", "abcdefghijklm", "a-b", "a b", "\u00e9", "a\u0661", None, 1, ("a",), SubStr("a"), "aB"]:
             self.bad(("ref", name))
 
+    def test_lengths_of_tuples(self):
+        machine = ((0, 0, "0"),)
+        for term in [("bits", "0"), ("table", ()), ("width", 1), ("row", ()), ("either", ()), ("times", 1, EMPTY), ("counted", EMPTY, EMPTY),
+                     ("until", "1", EMPTY), ("sized", EMPTY, EMPTY), ("checked", machine, EMPTY), ("ref", "a")]:
+            self.good(term)
+            self.bad(term + term[1:], term + (term[-1],), term[:-1], term + (None,))
+
     def test_depth(self):
         for wrap in WRAPS:
             self.good(deep(12, wrap))
@@ -154,7 +161,7 @@ class SheetsTest(unittest.TestCase):
 
     def test_wrong_places(self):
         for place in [
-            ("tree", (2,)), ("tree", (-1,)), ("tree", (True,)), ("tree", (0, 0)), ("other", ()), ("tree", [0]), ("tree",), "tree",
+            ("tree", (2,)), ("tree", (-1,)), ("tree", (True,)), ("tree", (0, 0)), ("other", ()), ("other", (0,)), ("tree", [0]), ("tree",), "tree",
             ["tree", ()], ("tree", (), ()), (("tree",), ()), (SubStr("tree"), ()), ("tree", SubTuple()), ("tree", (SubInt(0),)),
             ("tree", (None,)), ("tree", "0"), ("tree", (10 ** 89,)), ([], ()),
         ] + ANY_VALUES:

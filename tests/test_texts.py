@@ -3,6 +3,7 @@
 import unittest
 
 from tests import oracle
+from tests.test_forms import WRAPS, deep
 from tests.examples import ANY_VALUES, BOX, TREE, SubStr, nested, nested_list
 from termsonwires.errors import InvalidSheet, InvalidText, InvalidThing
 from termsonwires.changes import lifted, unrolled
@@ -143,6 +144,16 @@ class TextsTest(unittest.TestCase):
         self.refused(sheet_of, deep + "t", len(deep))
         self.refused(sheet_of, deep + "((", len(deep) + 1)
         self.refused(sheet_of, deep + "(,", len(deep) + 1)
+
+    def test_depth_through_each_kind_of_part(self):
+        head = "root a\na = "
+        for wrap in WRAPS:
+            text = sheet_text(("a", (("a", deep(12, wrap)),)))
+            self.assertEqual(sheet_of(text), ("a", (("a", deep(12, wrap)),)))
+            ahead = sheet_text(("a", (("a", wrap(("ref", "a"))),)))[len(head):].split("@")[0]
+            behind = sheet_text(("a", (("a", wrap(("ref", "a"))),)))[len(head):-1].split("@a")[1]
+            too_deep = head + ahead * 12 + "()" + behind * 12 + "\n"
+            self.refused(sheet_of, too_deep, len(head) + 11 * len(ahead) + (1 if ahead[0] in "({" else 0))
 
     def test_changed_sheet_texts(self):
         """Each refused text is refused at an index from which on no other sign would do, and is right up to it."""
