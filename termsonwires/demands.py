@@ -1,12 +1,17 @@
 """The errors that functions raise for their parameters, one demand for each kind of parameter."""
 
-from termsonwires.errors import InvalidBits, InvalidCount, InvalidIndex, InvalidName, InvalidPlace, InvalidPrice
-from termsonwires.errors import InvalidSheet, InvalidTerm, InvalidThing
+from termsonwires.automata import is_least_acceptor
+from termsonwires.errors import InvalidAcceptor, InvalidBits, InvalidCount, InvalidDamage, InvalidHoled, InvalidIndex
+from termsonwires.errors import InvalidName, InvalidPlace, InvalidPrice, InvalidSheet, InvalidState, InvalidTable
+from termsonwires.errors import InvalidTeller, InvalidTerm, InvalidThing
+from termsonwires.heighttables import is_height_table_of
 from termsonwires.kinds import is_bits, is_integer, is_name, is_plain, is_string, is_within
+from termsonwires.speech import is_least_teller_value
 from termsonwires.terms import is_any_sheet, is_any_term, is_place_of, refs_of, term_of_name
 
 MOST_LENGTH = 60
 PRICE_BOUND = 10 ** 12
+DAMAGES = ("flip", "lose", "put 0", "put 1")
 
 
 def need_sheet(value):
@@ -62,3 +67,46 @@ def need_length(value):
 def need_price(value):
     if not is_integer(value) or not -PRICE_BOUND < value < PRICE_BOUND:
         raise InvalidPrice("this is no integer of at most twelve digits")
+
+
+def need_acceptor(value):
+    if not is_least_acceptor(value):
+        raise InvalidAcceptor("this is no least acceptor")
+
+
+def need_teller(value):
+    if not is_least_teller_value(value):
+        raise InvalidTeller("this is no least teller")
+
+
+def need_state(acceptor, value):
+    if not is_within(value, 0, len(acceptor) - 1):
+        raise InvalidState("this is no state of the acceptor")
+
+
+def need_open_state(acceptor, value):
+    need_state(acceptor, value)
+    if acceptor[value][2] != "open":
+        raise InvalidState("this state is not open")
+
+
+def need_holed(value):
+    if not is_string(value) or value.strip("01?") != "":
+        raise InvalidHoled("this is no string of the signs 0, 1 and ?")
+
+
+def need_table(acceptor, value):
+    if not is_height_table_of(acceptor, value):
+        raise InvalidTable("this is no height table of the acceptor that holds")
+
+
+def need_damage(value):
+    if not is_string(value) or value not in DAMAGES:
+        raise InvalidDamage("this is none of the words flip, lose, put 0, put 1")
+
+
+def need_damage_index(bits, damage, value):
+    """A bit may be put in behind the last one."""
+    most = len(bits) if damage.startswith("put") else len(bits) - 1
+    if not is_within(value, 0, most):
+        raise InvalidIndex("this is no index at which the bits can have the damage")

@@ -13,11 +13,14 @@ BUILTINS = {
     "ValueError", "TypeError", "KeyError", "NotImplementedError", "NotImplemented", "iter", "property", "pow",
 }
 ALL_BUILTINS = set(dir(__builtins__) if not isinstance(__builtins__, dict) else __builtins__)
-BARRED = {
+CHANGING = {"append", "extend", "insert", "pop", "remove", "clear", "update", "setdefault", "reverse", "add", "discard"}
+LIBRARY = {"heapq": {"heappop", "heappush"}, "math": {"gcd"}}
+BARRED_WORDS = {
     "typing", "typing_extensions", "enum", "Enum", "IntEnum", "StrEnum", "Flag", "IntFlag", "Generic", "Protocol",
-    "ABC", "ABCMeta", "namedtuple", "NamedTuple", "TypedDict", "TYPE_CHECKING", "abstractmethod", "register", "mro",
-    "elements", "open", "input", "law", "version_info", "with_traceback", "add_note",
+    "ABC", "ABCMeta", "namedtuple", "NamedTuple", "TypedDict", "TYPE_CHECKING", "abstractmethod",
 }
+BARRED_NAMES = {"register", "mro", "elements", "open", "input", "law", "version_info", "with_traceback", "add_note"}
+BARRED = BARRED_WORDS | BARRED_NAMES
 METHODS = set(
     "append clear copy count endswith extend find get index insert isalnum isalpha isdigit islower isspace isupper items"
     " join keys ljust lower lstrip partition pop remove replace reverse rfind rjust rpartition rsplit rstrip setdefault"
@@ -67,6 +70,9 @@ class LanguageTest(unittest.TestCase):
             self.assertEqual(len(top), len(every), name)
             for node in every:
                 self.assertIsInstance(node, ast.ImportFrom, name)
+                if node.module in LIBRARY:
+                    self.assertTrue({alias.name for alias in node.names} <= LIBRARY[node.module], name)
+                    continue
                 self.assertTrue(node.module.startswith("termsonwires."), f"{name} {node.module}")
                 module = self.trees[node.module.split(".")[1] + ".py"]
                 defined = {part.name for part in module.body if isinstance(part, (ast.FunctionDef, ast.ClassDef))}
@@ -84,7 +90,8 @@ class LanguageTest(unittest.TestCase):
 
     def test_no_rings_of_imports(self):
         links = {
-            name: {node.module.split(".")[1] + ".py" for node in tree.body if isinstance(node, ast.ImportFrom)}
+            name: {node.module.split(".")[1] + ".py" for node in tree.body
+                   if isinstance(node, ast.ImportFrom) and node.module not in LIBRARY}
             for name, tree in self.trees.items()
         }
         left = set(links)
@@ -104,6 +111,8 @@ class LanguageTest(unittest.TestCase):
                     bound = [node.id]
                 else:
                     bound = []
+                if isinstance(node, (ast.Attribute, ast.keyword)):
+                    self.assertNotIn(node.attr if isinstance(node, ast.Attribute) else node.arg, BARRED_NAMES, name)
                 for word in bound:
                     self.assertNotIn(word, ALL_BUILTINS, name)
                     self.assertNotIn(word, imported | classes, name)
@@ -161,8 +170,65 @@ class LanguageTest(unittest.TestCase):
                     self.assertFalse(node.value.startswith("__") and node.value.endswith("__"), name)
             for word in re.findall(r"[A-Za-z_]+", "\n".join(row.split("#")[0] for row in source.split("\n"))):
                 self.assertFalse(word.startswith("_wall") or word in ("dataclass", "overload", "contextmanager"), name)
-                if word in BARRED or word == "type":
+                if word in BARRED_WORDS or word == "type":
                     self.assertRegex(source, r'"""[^"]*\b' + word, f"{name} {word}")
+
+    def test_powers_have_literal_exponents(self):
+        for name, tree in self.trees.items():
+            for node in ast.walk(tree):
+                if isinstance(node, ast.BinOp) and isinstance(node.op, ast.Pow):
+                    self.assertIsInstance(node.right, ast.Constant, f"{name} {node.lineno}")
+
+    def test_lambdas(self):
+        for name, tree in self.trees.items():
+            seen = [(node.lineno, tuple(arg.arg for arg in node.args.args)) for node in ast.walk(tree) if isinstance(node, ast.Lambda)]
+            self.assertEqual(len(seen), len(set(seen)), name)
+
+    def test_attributes_and_methods(self):
+        methods, stored, read = {}, set(), []
+        for name, tree in self.trees.items():
+            for node in ast.walk(tree):
+                if isinstance(node, ast.ClassDef):
+                    own = {part.name for part in node.body if isinstance(part, ast.FunctionDef)}
+                    attributes = {part.attr for part in ast.walk(node) if isinstance(part, ast.Attribute) and isinstance(part.ctx, ast.Store)}
+                    self.assertEqual(own & attributes, set(), f"{name} {node.name}")
+                    methods.update({word: name for word in own})
+                if isinstance(node, ast.Attribute):
+                    if isinstance(node.ctx, ast.Store):
+                        stored.add(node.attr)
+                    elif node.attr not in METHODS and not node.attr.startswith("__"):
+                        read.append((node.attr, name))
+        self.assertEqual([pair for pair in read if pair[0] not in stored and pair[0] not in methods], [])
+
+    def test_no_loop_changes_what_it_goes_over(self):
+        for name, tree in self.trees.items():
+            for loop in ast.walk(tree):
+                if isinstance(loop, ast.For):
+                    over = ast.unparse(loop.iter)
+                    for node in ast.walk(loop):
+                        if isinstance(node, ast.Call) and isinstance(node.func, ast.Attribute) and node.func.attr in CHANGING:
+                            self.assertNotEqual(ast.unparse(node.func.value), over, f"{name} {loop.lineno}")
+
+    def test_keys_of_sorting(self):
+        for name, tree in self.trees.items():
+            for node in ast.walk(tree):
+                if isinstance(node, ast.Call) and isinstance(node.func, ast.Name) and node.func.id in BUILTINS:
+                    allowed = {"sorted": {"key", "reverse"}, "min": {"key", "default"}, "max": {"key", "default"}, "sum": {"start"}}
+                    words = {keyword.arg for keyword in node.keywords}
+                    self.assertTrue(words <= allowed.get(node.func.id, set()), f"{name} {node.lineno}")
+
+    def test_views_are_iterated_at_once(self):
+        for name, tree in self.trees.items():
+            around = {child: node for node in ast.walk(tree) for child in ast.iter_child_nodes(node)}
+            for node in ast.walk(tree):
+                if not isinstance(node, ast.Call):
+                    continue
+                view = isinstance(node.func, ast.Attribute) and node.func.attr in ("items", "keys", "values")
+                if view or isinstance(node.func, ast.Name) and node.func.id in ("zip", "enumerate", "reversed", "range"):
+                    outer = around[node]
+                    fits = isinstance(outer, (ast.For, ast.comprehension)) or isinstance(outer, ast.Call) and isinstance(
+                        outer.func, ast.Name) and outer.func.id in ("list", "tuple", "dict", "sorted", "sum", "enumerate", "zip", "min", "max")
+                    self.assertTrue(fits, f"{name} {node.lineno}")
 
     def test_sets_stay_local(self):
         for name, tree in self.trees.items():
