@@ -7,7 +7,6 @@ one more dead state behind all others.
 from termsonwires.kinds import is_list, is_string, is_tuple_of, is_within
 
 KINDS = ("open", "whole", "dead")
-NO_WORDS = ((0, 0, "dead"),)
 
 
 def is_kind(value):

@@ -1,11 +1,13 @@
 """The errors that functions raise for their parameters, one demand for each kind of parameter."""
 
 from termsonwires.automata import is_least_acceptor
-from termsonwires.errors import InvalidAcceptor, InvalidBits, InvalidCount, InvalidDamage, InvalidHoled, InvalidIndex
-from termsonwires.errors import InvalidName, InvalidPlace, InvalidPrice, InvalidSheet, InvalidState, InvalidTable
-from termsonwires.errors import InvalidTeller, InvalidTerm, InvalidThing
+from termsonwires.chartforms import is_clean_chart
+from termsonwires.errors import InvalidAcceptor, InvalidBits, InvalidChart, InvalidCount, InvalidDamage, InvalidHoled
+from termsonwires.errors import InvalidIndex, InvalidMap, InvalidName, InvalidPlace, InvalidPrice, InvalidSheet
+from termsonwires.errors import InvalidState, InvalidTable, InvalidTeller, InvalidTerm, InvalidThing
 from termsonwires.heighttables import is_height_table_of
 from termsonwires.kinds import is_bits, is_integer, is_name, is_plain, is_string, is_within
+from termsonwires.mapforms import is_any_map
 from termsonwires.speech import is_least_teller_value
 from termsonwires.terms import is_any_sheet, is_any_term, is_place_of, refs_of, term_of_name
 
@@ -110,3 +112,13 @@ def need_damage_index(bits, damage, value):
     most = len(bits) if damage.startswith("put") else len(bits) - 1
     if not is_within(value, 0, most):
         raise InvalidIndex("this is no index at which the bits can have the damage")
+
+
+def need_map(value):
+    if not is_any_map(value):
+        raise InvalidMap("this is no map")
+
+
+def need_chart(value):
+    if not is_clean_chart(value):
+        raise InvalidChart("this is no clean chart")

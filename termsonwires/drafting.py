@@ -5,7 +5,7 @@ A mute one says nothing; it may read a width by states that do not tell the bits
 
 from termsonwires.fragments import DEAD, DEAD_STEP, EXIT, Draft, Fragment, Product, behind_text
 from termsonwires.spelling import digits
-from termsonwires.texts import atom_text
+from termsonwires.thingtexts import atom_text
 from termsonwires.tops import has_word
 
 

@@ -2,33 +2,11 @@
 
 from termsonwires.demands import need_plain, need_sheet
 from termsonwires.errors import InvalidSheet
-from termsonwires.kinds import DEEPEST, TEXT_SIGNS, is_tuple
+from termsonwires.kinds import DEEPEST, TEXT_SIGNS
 from termsonwires.scanner import Scanner
 from termsonwires.sheetscan import scan_sheet
 from termsonwires.terms import is_any_sheet
-
-
-def atom_text(atom):
-    return str(atom) if isinstance(atom, int) else f"'{atom}'"
-
-
-def text_of(thing):
-    """The text of a thing of any depth; what waits stands in a list, the last one first."""
-    signs = []
-    waiting = [("thing", thing)]
-    while waiting:
-        word, what = waiting.pop()
-        if word == "sign":
-            signs.append(what)
-        elif is_tuple(what):
-            signs.append("(")
-            waiting.append(("sign", ")"))
-            for k in range(len(what) - 1, -1, -1):
-                waiting.append(("sign", ","))
-                waiting.append(("thing", what[k]))
-        else:
-            signs.append(atom_text(what))
-    return "".join(signs)
+from termsonwires.thingtexts import atom_text, text_of
 
 
 def thing_text(plain):
