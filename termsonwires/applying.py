@@ -5,7 +5,7 @@ Maps are made ready first: a table is a dict by the texts of the ones, a chart i
 
 from termsonwires.chartforms import scanned_chart
 from termsonwires.flatforms import end_of, filled, flat_thing, parts_of_form, thing_built
-from termsonwires.kinds import is_string, is_tuple, is_tuple_of
+from termsonwires.kinds import is_tuple, is_tuple_of
 from termsonwires.mapforms import size_sum
 from termsonwires.thingtexts import text_of
 
@@ -70,7 +70,7 @@ def whole_tuple(parts):
 
 
 def given_by_ways(mapping, thing):
-    if not is_tuple_of(thing, 2) or not is_string(thing[0]):
+    if not is_tuple_of(thing, 2):
         return None
     for label, new, inner in mapping[1]:
         if label == thing[0]:
@@ -88,8 +88,7 @@ def given_by_label(mapping, thing):
 
 
 def given_by_unlabel(mapping, thing):
-    fits = is_tuple_of(thing, 2) and is_string(thing[0]) and thing[0] == mapping[1]
-    return thing[1] if fits else None
+    return thing[1] if is_tuple_of(thing, 2) and thing[0] == mapping[1] else None
 
 
 def given_by_same(mapping, thing):

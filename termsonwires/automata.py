@@ -64,7 +64,7 @@ class Partition:
 
     def __init__(self, marks, steps):
         self.steps = steps
-        self.ahead = ahead_of(steps)
+        self.sources = ahead_of(steps)
         self.classes = []
         self.sizes = []
         numbers = {}
@@ -83,7 +83,7 @@ class Partition:
         groups = {}
         seen = set()
         for state in moved:
-            for before in self.ahead[state]:
+            for before in self.sources[state]:
                 if before not in seen:
                     seen.add(before)
                     sign = tuple([self.classes[other] for other in self.steps[before]])

@@ -81,8 +81,7 @@ def is_slip(acceptor, damage, value):
     if not is_tuple_of(value, 3) or not is_bits(value[0]):
         return False
     bits, index, start = value
-    most = len(bits) if damage.startswith("put") else len(bits) - 1
-    if not is_within(index, 0, most) or not is_within(start, first_behind(damage, index), len(bits)):
+    if not is_within(index, 0, len(bits)) or not is_within(start, first_behind(damage, index), len(bits)):
         return False
     if plain_walk(acceptor, 0, bits) is None or struck_answer(acceptor, bits, damage, index)[0] != "open":
         return False

@@ -7,8 +7,8 @@ from termsonwires.demands import need_acceptor, need_bits, need_damage, need_dam
 from termsonwires.errors import TooMany, Unfit
 from termsonwires.kinds import is_ascending, is_bits, is_integer, is_list, is_tuple_of
 from termsonwires.search import first_bits
-from termsonwires.trains import SETTLED, Chase, greatest_rank, heard_states, kept_apart, need_open, pair_behind
-from termsonwires.trains import pair_ranks, plain_state, plain_walk, settling_bits, states_heard_behind, unlike_pairs
+from termsonwires.trains import Chase, greatest_rank, heard_states, kept_apart, need_open, pair_behind, pair_ranks
+from termsonwires.trains import plain_state, plain_walk, settling_bits, states_heard_behind, unlike_pairs
 from termsonwires.trains import unsettled_pairs
 
 MOST_OPEN = 10
@@ -39,7 +39,6 @@ def settling(acceptor, open_state, other_open_state):
     need_acceptor(acceptor)
     need_open_state(acceptor, open_state)
     need_open_state(acceptor, other_open_state)
-    need_open(acceptor)
     return settling_bits(acceptor, open_state, other_open_state)
 
 
@@ -62,7 +61,7 @@ def is_standoff(acceptor, value):
     if not all([pair in pairs for pair in value]):
         return False
     behind = [pair_behind(acceptor, pair, bit) for pair in value for bit in (0, 1)]
-    return all([pair is None or (pair != SETTLED and pair in value) for pair in behind])
+    return all([pair is None or pair in value for pair in behind])
 
 
 def is_found(acceptor, states):
@@ -91,8 +90,6 @@ def finder(acceptor):
     while len(states) > 1:
         bits += settling_bits(acceptor, states[0], states[1])
         states = heard_plain(acceptor, bits)
-    if is_found(acceptor, heard_states(acceptor, bits)):
-        return bits
     return bits + word_from(acceptor, states[0])
 
 

@@ -12,9 +12,9 @@ def is_height_row(value, pair):
     return value[2] is None or (is_integer(value[2]) and value[2] >= 0)
 
 
-def is_at_most(height, other):
+def is_at_most(height, most):
     """None counts as greater than all integers."""
-    return other is None or (height is not None and height <= other)
+    return height is not None and height <= most
 
 
 def row_holds(acceptor, told, pair):

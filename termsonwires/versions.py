@@ -19,8 +19,7 @@ def unread(acceptor, other_acceptor):
 
 
 def kind_of_common(kinds):
-    if "dead" in kinds:
-        return "dead"
+    """Whatever is open without a word is dead when it is made least."""
     return "whole" if kinds == ("whole", "whole") else "open"
 
 
@@ -50,9 +49,7 @@ def collision(acceptor, other_acceptor):
 
 
 def kind_of_joined(kinds):
-    if "whole" in kinds:
-        return "whole"
-    return "open" if "open" in kinds else "dead"
+    return "whole" if "whole" in kinds else "open"
 
 
 def joined(acceptor, other_acceptor):

@@ -348,7 +348,7 @@ class ErrorsTest(unittest.TestCase):
         for value in ANY_VALUES + [4, -1]:
             if not (type(value) is int and 0 <= value < 4):
                 for call in (lambda: state_behind(UNTIL, value, None), lambda: first_word(acceptor=UNTIL, state=value),
-                             lambda: parted_by(UNTIL, value, None), lambda: parted_by(acceptor=UNTIL, state=0, other_state=value)):
+                             lambda: parted_by(UNTIL, value, 0), lambda: parted_by(UNTIL, value, None), lambda: parted_by(acceptor=UNTIL, state=0, other_state=value)):
                     with self.assertRaises(InvalidState):
                         call()
             if not (type(value) is str and set(value) <= set("01")):

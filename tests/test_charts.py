@@ -96,6 +96,9 @@ class ChartOfTest(unittest.TestCase):
             (("each", each_table), ("each", ("unwrap",)), ((("each", 0, ((row(atom(0)), atom(1)), (row(atom(1)), atom(2)))), ("each", 0)),)),
             (("each", ("row", (SAME, SAME))), ("unwrap",), ((row(row(ANY, ("any", 1))), row(ANY, ("any", 1))),)), (("each", ("turn", (1, 0))), ("turn", (1, 0)), ((row(row(ANY, ("any", 1)), row(("any", 2), ("any", 3))), row(row(("any", 3), ("any", 2)), row(("any", 1), ANY))),)),
             (("each", ("each", SAME)), ("unwrap",), ((row(("each", 0, ((ANY, ANY),))), ("each", 0)),)),
+            (("row", (("each", ("label", "a")), SAME)), ("row", (("each", ("unlabel", "b")), SAME)), ((row(row(), ANY), row(row(), ANY)),)),
+            (("each", ("turn", (1, 0))), ("row", (("each", ("table", ((1, 2),))), SAME)), ((row(row(atom(1), atom(1)), row(ANY, ("any", 1))), row(row(atom(2), atom(2)), row(("any", 1), ANY))),)),
+            (("each", ("row", (("each", table(1)),))), ("row", (("row", (("each", ("table", ((1, 5),))),)), ("unwrap",))), ((row(row(("each", 0, ((atom(0), atom(5)),))), row(("each", 1, ((atom(0), atom(1)),)))), row(row(("each", 0)), ("each", 1))),)),
         ]:
             mapping = ("after", first, second)
             self.assertEqual(chart_of(mapping), chart, mapping)
@@ -160,7 +163,7 @@ class ChartOfTest(unittest.TestCase):
             (after(("each", table(10)), ("turn", (0, 1))), after(("each", table(10)), ("turn", (0, 1, 2)))), (after(("pack", (None, None)), ("each", table(10))), after(("pack", (None,) * 3), ("each", table(5)))),
             (chart(100), ("row", (chart(100), table(2)))),
             (after(table(100), ("table", ((1, 1),))), after(table(101), ("table", ((1, 1),)))), (after(("table", ((1, 1),)), table(100)), after(("table", ((1, 1),)), table(101))),
-            (("row", (table(100), ("table", ()))), ("row", (table(101), ("table", ())))), (("row", (("table", ()),) + (table(2),) * 22), ("row", (table(2),) * 22)),
+            (("row", (table(100), ("table", ()))), ("row", (table(101), ("table", ())))), (("row", (("table", ()),) + (table(2),) * 22), ("row", (table(2),) * 22)), (("row", (table(2),) * 22 + (("table", ()),)), ("row", (table(2),) * 7)),
             (after(grid(10, 10), ("table", ())), after(grid(10, 11), ("table", ()))), (("each", after(table(99), ("table", ()))), ("each", after(table(101), ("table", ())))),
         ]:
             self.assertIs(is_chart(chart_of(good)), True)

@@ -200,7 +200,7 @@ class HeardTest(unittest.TestCase):
 
     def test_no_standoffs(self):
         for value in ANY_VALUES + [[], ((0, 1),), [[0, 1]], [(1, 0)], [(0, 0)], [(0, 2)], [(0, 1, 1)], [(0, True)], [(False, 1)], [(0, SubInt(1))],
-                                   SubList([(0, 1)]), [SubTuple((0, 1))], [(0, 1), (0, 1)], [(0, "1")], [(0, None)], [None]]:
+                                   SubList([(0, 1)]), [SubTuple((0, 1))], [(0, 1), (0, 1)], [(0, 1), (1, 0)], [(0, 1), (2, 3)], [(0, 9)], [(-1, 0)], [(0, "1")], [(0, None)], [None]]:
             self.assertIs(is_standoff(WIDTH, value), False, repr(value)[:60])
         self.assertIs(is_standoff(acceptor=WIDTH, value=[(0, 1)]), True)
 
@@ -455,8 +455,9 @@ class ErrorsTest(unittest.TestCase):
     def test_other_parameters(self):
         for value in ANY_VALUES + [2, 3, 4, -1, SubInt(0)]:
             if not (type(value) is int and 0 <= value < 2):
-                with self.assertRaises(InvalidState):
-                    settling(UNTIL, value, None)
+                for other in (None, 0):
+                    with self.assertRaises(InvalidState):
+                        settling(UNTIL, value, other)
                 with self.assertRaises(InvalidState):
                     settling(acceptor=UNTIL, open_state=0, other_open_state=value)
         for value in ANY_VALUES + ["put", "put 2", "put0", "Flip", " flip", SubStr("flip"), "put 10"]:

@@ -215,7 +215,7 @@ class HeightsTest(unittest.TestCase):
             [], good[:-1], good + good[-1:], good[::-1], tuple(good), SubList(good), [list(row) for row in good], [SubTuple(good[0])] + good[1:],
             [(0, 0)] + good[1:], [(0, 0, 0, 0)] + good[1:], [(0, 0, False)] + good[1:], [(0, 0, SubInt(0))] + good[1:], [(0, 0, -1)] + good[1:],
             [(0, False, 0)] + good[1:], [(SubInt(0), 0, 0)] + good[1:], [(0, 0, "0")] + good[1:], [(0, 0, 0.0)] + good[1:], [good[0], (1, 0, None), good[2]],
-            [good[0], (0, 2, None), good[2]], [good[0], (0, 1, None), (2, 2, 0)],
+            [(0, 0, -1), (0, 1, None), (1, 1, -1)], [good[0], (0, 2, None), good[2]], [good[0], (0, 1, None), (2, 2, 0)],
         ]:
             self.assertIs(is_height_table(UNTIL, value), False, repr(value)[:60])
             with self.assertRaises(InvalidTable):
@@ -248,7 +248,7 @@ class ApartTest(unittest.TestCase):
     def test_errors(self):
         for value in ANY_VALUES + [tuple(UNTIL), UNTIL[::-1], [(0, 0, "open")]]:
             for call in (gap, nearest, heights, lambda rows: gap_at(rows, None), lambda rows: is_height_table(rows, None),
-                         lambda rows: worth(rows, None), lambda rows: apart(rows, None), lambda rows: apart(UNTIL, rows)):
+                         lambda rows: worth(rows, None), lambda rows: apart(rows, None), lambda rows: apart(rows, UNTIL), lambda rows: apart(UNTIL, rows)):
                 with self.assertRaises(InvalidAcceptor):
                     call(value)
             if not (type(value) is int and 0 <= value <= 60):

@@ -200,6 +200,9 @@ class LeadsTest(unittest.TestCase):
         swapped = one(("either", (("b", "0", ("width", 2)), ("a", "1", ("width", 2)))))
         straight = one(("either", (("b", "0", ("width", 2)), ("a", "1", ("table", ((0, "00"), (1, "01"), (2, "10"), (5, "11")))))))
         self.assertEqual(misread(teller_of(swapped), teller_of(straight)), "111")
+        doubled = one(("table", ((11, "0"), (22, "10"))))
+        self.assertEqual(misread(teller_of(one(("table", ((1, "0"), (2, "10"))))), teller_of(doubled)), "0")
+        self.assertEqual(lost(one(("table", ((1, "0"), (2, "10")))), doubled), ("0", 1, ("thing", 11, 1)))
         late = one(("until", "11", ("table", ((1, "0"), (11, "10")))))
         later = one(("until", "11", ("table", ((11, "10"), (1, "0")))))
         self.assertIsNone(misread(teller_of(late), teller_of(later)))
@@ -211,7 +214,7 @@ class LeadsTest(unittest.TestCase):
         good = lead_table(teller, other)
         for value in ANY_VALUES + [
             SubList(good), [SubTuple(good[0])] + good[1:], [(0, 0, SubStr("1"), "")] + good[1:], [(False, 0, "1", "")] + good[1:], [(0, SubInt(0), "1", "")] + good[1:],
-            good[:1] + [(1, True, "", "")] + good[2:], [(0, 0, "1", None)] + good[1:], [(0, 0, 1, "")] + good[1:], good + [(3, 3, "", "")], [(0.0, 0, "1", "")] + good[1:],
+            good[:1] + [(1, True, "", "")] + good[2:], [(0, 0, "1", None)] + good[1:], [(0, 0, 1, "")] + good[1:], [(0, 0, "1", SubStr(""))] + good[1:], good + [(3, 3, "", "")], [(0.0, 0, "1", "")] + good[1:],
         ]:
             self.assertIs(is_lead_table(teller, other, value), False, repr(value)[:60])
         self.assertIs(is_lead_table(teller=teller, other_teller=other, value=list(good)), True)

@@ -101,7 +101,7 @@ class PatternsTest(unittest.TestCase):
             [SAME], SubTuple((SAME,)), (list(SAME),), (SubTuple(SAME),), ((ANY,),), ((ANY, ANY, ANY),), ((["any", 0], ANY),), ((SubTuple(ANY), ANY),), (((SubStr("any"), 0), ANY),),
             ((atom(True), atom(1)),), ((atom(None), atom(1)),), ((atom(10 ** 40), atom(1)),), ((atom("x" * 13), atom(1)),), ((atom("%"), atom(1)),), ((atom(1.0), atom(1)),),
             ((atom(()), atom(1)),), ((("atom",), atom(1)),), ((("atom", 1, 2), atom(1)),), ((("tuple",), atom(1)),), ((("tuple", [ANY]), ANY),), ((("tuple", ANY), ANY),),
-            ((("tuple", (), ()), atom(1)),), ((("other", 0), ANY),), ((("each", 0, [SAME]), ("each", 0)),), ((("each", 0, SAME), ("each", 0)),), ((atom(SubInt(1)), atom(1)),),
+            ((("tuple", (), ()), atom(1)),), ((("other", 0), ANY),), ((("other", ()), atom(1)),), ((atom(1), ("other", ())),), ((("each", 0, [SAME]), ("each", 0)),), ((("each", 0, SAME), ("each", 0)),), ((atom(SubInt(1)), atom(1)),),
             ((("each", True, (SAME,)), ("each", 1)),), ((atom(SubStr("a")), atom(1)),), ((("tuple", SubTuple()), atom(1)),), ((None, None),), (None,),
         ]:
             self.assertIs(is_chart(value), value == () and type(value) is tuple, repr(value)[:60])
