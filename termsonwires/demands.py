@@ -12,6 +12,7 @@ from termsonwires.speech import is_least_teller_value
 from termsonwires.terms import is_any_sheet, is_any_term, is_place_of, refs_of, term_of_name
 
 MOST_LENGTH = 60
+MOST_LISTED = 12
 PRICE_BOUND = 10 ** 12
 DAMAGES = ("flip", "lose", "put 0", "put 1")
 
@@ -51,6 +52,11 @@ def need_bits(value):
         raise InvalidBits("this is no string of the signs 0 and 1")
 
 
+def need_bit(value):
+    if not is_string(value) or value not in ("0", "1"):
+        raise InvalidBits("this is none of the signs 0 and 1")
+
+
 def need_at(bits, value):
     if not is_within(value, 0, len(bits)):
         raise InvalidIndex("this is no index from 0 to the number of the bits")
@@ -64,6 +70,11 @@ def need_count(value):
 def need_length(value):
     if not is_within(value, 0, MOST_LENGTH):
         raise InvalidCount("this is no integer from 0 to 60")
+
+
+def need_few_bits(value):
+    if not is_within(value, 0, MOST_LISTED):
+        raise InvalidCount("this is no integer from 0 to 12")
 
 
 def need_price(value):

@@ -80,6 +80,18 @@ def is_plain(value):
     return True
 
 
+def is_deep_plain(value):
+    """Whether the value is a plain thing of any depth."""
+    waiting = [value]
+    while waiting:
+        part = waiting.pop()
+        if is_tuple(part):
+            waiting.extend(part)
+        elif not is_atom(part):
+            return False
+    return True
+
+
 def is_ascending(row):
     """Duplicates are not ascending."""
     return all([row[k] < row[k + 1] for k in range(len(row) - 1)])

@@ -23,6 +23,30 @@ def counted_words(sets, numbers, item):
     return joined(sets, [sets.ahead(numbers[k], powers[k]) for k in numbers])
 
 
+def term_words(sets, term, inner, numbers):
+    """The words of a term that is no ref, by those of its parts; numbers are the integers and words of its number."""
+    word = term[0]
+    if word == "bits":
+        return sets.of_word(term[1])
+    if word == "table":
+        return joined(sets, [sets.of_word(bits) for _, bits in term[1]])
+    if word == "width":
+        return sets.filled("", term[1])
+    if word == "row":
+        return suffixes(sets, inner)[0]
+    if word == "either":
+        return joined(sets, [sets.ahead(way[1], words) for way, words in zip(term[1], inner)])
+    if word == "times":
+        return suffixes(sets, inner * term[1])[0]
+    if word == "until":
+        return sets.chained(sets.repeated(inner[0]), sets.of_word(term[1]))
+    if word == "checked":
+        return sets.with_check(inner[0], term[1])
+    if word == "counted":
+        return counted_words(sets, numbers, inner[1])
+    return joined(sets, [sets.ahead(numbers[k], sets.exactly(inner[1], k)) for k in numbers])
+
+
 class Table:
     """The words of all nodes of a sheet, as sets tells them; numbers are the integers and words of its numbers."""
 
@@ -34,38 +58,12 @@ class Table:
 
     def by_parts(self, found, node):
         """The words of the term of the node, by those that are found for its parts."""
-        sets = self.sets
         term = self.nodes.terms[node]
         parts = self.nodes.parts[node]
-        word = term[0]
-        if word == "bits":
-            return sets.of_word(term[1])
-        if word == "table":
-            return joined(sets, [sets.of_word(bits) for _, bits in term[1]])
-        if word == "width":
-            return sets.filled("", term[1])
-        if word == "ref":
+        if term[0] == "ref":
             return found[self.nodes.targets[node]]
-        if word == "row":
-            return suffixes(sets, [found[part] for part in parts])[0]
-        if word == "either":
-            return joined(sets, [sets.ahead(way[1], found[part]) for way, part in zip(term[1], parts)])
-        return self.by_one_part(found, node, term, parts)
-
-    def by_one_part(self, found, node, term, parts):
-        """As by_parts, for a term all of whose things are made of those of one part."""
-        sets = self.sets
-        inner = found[parts[-1]]
-        if term[0] == "times":
-            return suffixes(sets, [inner] * term[1])[0]
-        if term[0] == "until":
-            return sets.chained(sets.repeated(inner), sets.of_word(term[1]))
-        if term[0] == "checked":
-            return sets.with_check(inner, term[1])
-        numbers = self.numbers[parts[0]]
-        if term[0] == "counted":
-            return counted_words(sets, numbers, inner)
-        return joined(sets, [sets.ahead(numbers[k], sets.exactly(inner, k)) for k in numbers])
+        numbers = self.numbers[parts[0]] if parts else {}
+        return term_words(self.sets, term, [found[part] for part in parts], numbers)
 
     def by_entries(self, given):
         """For each entry the words of its term, by those that are given for the entries."""

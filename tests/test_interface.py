@@ -46,6 +46,17 @@ INTERFACE = {
     "charts": [
         "chart_of(mapping)", "shortened_map(mapping)", "same_map(mapping, other_mapping)", "is_below(mapping, other_mapping)",
         "parting(mapping, other_mapping)"],
+    "carrying": ["misfit(sheet, mapping)", "unkept(sheet, mapping, other_sheet, *, most=8)"],
+    "rules": ["rewritings(term)", "step_map(term, path, rule)", "weight(term)", "reach(term)"],
+    "rewriting": [
+        "put_in(sheet)", "is_rewriting_row(term, value)", "rewritten(term, steps)", "carried(term, steps, thing)", "is_normal_term(term)",
+        "normal_row(term)", "normal_term(term)", "is_road(term, other_term, value)", "road(term, other_term)"],
+    "codes": [
+        "is_code(value)", "code_fault(code)", "code_of(sheet)", "rule_lengths(code)", "are_lengths(code, value)", "pace(code)", "is_pace(code, value)"],
+    "feeding": [
+        "begun(code)", "feed(code, held, bits)", "answer_of(code, bits)", "steps(code, held, bits)", "is_held(code, value)", "ending(code, held)",
+        "death(code, held, bit)", "is_death(code, held, bit, value)"],
+    "heldtexts": ["held_text(code, held)", "held_of(code, text)"],
 }
 
 
