@@ -89,6 +89,14 @@ def told_faults(nodes):
     return early_faults(nodes) or late_faults(word_table(nodes))
 
 
+def faultless_table(nodes):
+    """The table of the words of a sheet; None if it has faults."""
+    if early_faults(nodes):
+        return None
+    table = word_table(nodes)
+    return None if late_faults(table) else table
+
+
 def sound_table(sheet):
     """The table of the words of a sheet without faults; InvalidSheet and Faulty for all else."""
     need_sheet(sheet)

@@ -1,9 +1,8 @@
 """Bits fed to a code, one by one: held states, the steps that are done, and papers that bits kill."""
 
-from termsonwires.codedemands import need_held, need_sound_code
+from termsonwires.codedemands import is_held_of, need_held, need_sound_code
 from termsonwires.codes import table_of_lengths
 from termsonwires.demands import need_bit, need_bits
-from termsonwires.heldforms import is_held_of
 from termsonwires.kinds import is_string, is_tuple, is_within
 from termsonwires.runs import Run, first_run
 

@@ -8,9 +8,8 @@ from termsonwires.links import reached
 from termsonwires.nodes import Nodes
 from termsonwires.normalizing import leads_to, normal_steps, wholes_met
 from termsonwires.prices import thing_of_word
-from termsonwires.soundterms import sound_part, sound_parts
 from termsonwires.spelling import thing_word
-from termsonwires.termparts import part_of_term, reach_of, sheet_of_term
+from termsonwires.termparts import part_of_term, reach_of, sheet_of_term, sound_part, sound_parts
 from termsonwires.terms import MOST_DEPTH, is_any_term, refs_of, term_of_name, with_refs
 
 MOST_TERMS = 80

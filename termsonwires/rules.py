@@ -3,9 +3,8 @@
 from termsonwires.errors import InvalidStep
 from termsonwires.kinds import is_path, is_string
 from termsonwires.ruling import RULES, outer_part_at, outer_parts, rewritten_part, rules_for
-from termsonwires.soundterms import sound_part
 from termsonwires.stepmaps import map_at
-from termsonwires.termparts import reach_of, weight_of
+from termsonwires.termparts import reach_of, sound_part, weight_of
 from termsonwires.terms import with_term_at
 
 

@@ -1,13 +1,16 @@
 """Terms without refs, each part with what its words tell: how many things it has, which integers are used."""
 
 from termsonwires.automata import Numbering, Partition
+from termsonwires.demands import need_term
+from termsonwires.errors import InvalidTerm
+from termsonwires.faultrows import sound_table
 from termsonwires.firsts import Firsts, first_of
 from termsonwires.kinds import is_ascending
 from termsonwires.manys import Manys, how_many
 from termsonwires.nodes import Nodes
 from termsonwires.numberwords import MOST_SIZED, number_words
 from termsonwires.tables import term_words
-from termsonwires.terms import depth_of, parts_of
+from termsonwires.terms import MOST_DEPTH, depth_of, parts_of
 
 CAP = MOST_SIZED + 1
 NUMBERED = ("counted", "sized")
@@ -154,3 +157,24 @@ def own_weight(part):
 
 def weight_of(part):
     return own_weight(part) + sum([weight_of(part.parts[k]) for k in outer_indexes(part)])
+
+
+def need_reach(part):
+    if reach_of(part) > MOST_DEPTH:
+        raise InvalidTerm("the reach of the term is above 12")
+
+
+def sound_parts(terms):
+    """The parts of terms; each kind of error of the first term that has it."""
+    for term in terms:
+        need_term(term)
+    for term in terms:
+        sound_table(sheet_of_term(term))
+    parts = [part_of_term(term) for term in terms]
+    for part in parts:
+        need_reach(part)
+    return parts
+
+
+def sound_part(term):
+    return sound_parts([term])[0]

@@ -57,7 +57,27 @@ INTERFACE = {
         "begun(code)", "feed(code, held, bits)", "answer_of(code, bits)", "steps(code, held, bits)", "is_held(code, value)", "ending(code, held)",
         "death(code, held, bit)", "is_death(code, held, bit, value)"],
     "heldtexts": ["held_text(code, held)", "held_of(code, text)"],
+    "streams": [
+        "opened(code)", "fed(code, stream, bits)", "is_stream(code, value)", "stream_text(code, stream)", "stream_of(code, text)",
+        "relayed(code, mapping, other_sheet, stream, bits)"],
+    "sure": ["takes(form, plain)", "least_form(things)", "sure(code, held)", "samples(code, held)"],
+    "wires": [
+        "is_wire(value)", "packed(wire, pieces)", "woven(wire, pieces, most)", "turn_bits(wire, name, most)", "linked(wire)", "feed_link(wire, link, bits)",
+        "is_link(wire, value)", "link_text(wire, link)", "link_of(wire, text)"],
+    "spots": [
+        "spot_stretch(sheet, thing, spot)", "spot_thing(sheet, thing, spot)", "spot_sizes(sheet, thing, spot)", "two_places(sheet, spot)",
+        "place_by(sheet, spot, sizes)"],
+    "bench": ["replay(wire, deeds)"],
 }
+CLASSES = {
+    ("bench", "Bench"): [
+        "__init__(self, wire)", "send(self, name, thing)", "pack(self, name, number)", "flip(self, index)", "lose(self, index)", "put(self, index, bit)",
+        "take(self, count)", "renew(self, name)", "undo(self)", "begin(self)", "keep(self)", "drop(self)", "twin(self)", "queue(self, name)", "events(self)",
+        "things(self, name)", "dead(self)", "link(self)", "sure(self, name)", "__len__(self)", "__iter__(self)", "__eq__(self, other)"],
+    ("bench", "CarefulBench"): ["take(self, count)"],
+    ("console", "Console"): ["__init__(self)", "execute(self, command)"],
+}
+PROPERTIES = ["wire", "tape", "taken", "deeds", "depth"]
 
 
 class InterfaceTest(unittest.TestCase):
@@ -70,6 +90,17 @@ class InterfaceTest(unittest.TestCase):
                 self.assertTrue(inspect.isfunction(function), row)
                 self.assertEqual(function.__module__, module.__name__)
                 self.assertEqual(name + str(inspect.signature(function)), row)
+
+    def test_classes(self):
+        for (file, name), rows in CLASSES.items():
+            kind = getattr(importlib.import_module(f"termsonwires.{file}"), name)
+            self.assertEqual(kind.__module__, f"termsonwires.{file}")
+            for row in rows:
+                method = vars(kind)[row.split("(")[0]]
+                self.assertEqual(method.__name__ + str(inspect.signature(method)), row)
+        bench = importlib.import_module("termsonwires.bench")
+        self.assertTrue(all(isinstance(vars(bench.Bench)[word], property) for word in PROPERTIES))
+        self.assertEqual(bench.CarefulBench.__bases__, (bench.Bench,))
 
 
 if __name__ == "__main__":

@@ -10,7 +10,7 @@ FILES = sorted(ROOT.glob("*.py"))
 BUILTINS = {
     "len", "range", "enumerate", "zip", "min", "max", "sum", "abs", "sorted", "reversed", "int", "str", "bool", "list",
     "tuple", "dict", "set", "isinstance", "ord", "repr", "any", "all", "divmod", "super", "map", "Exception",
-    "ValueError", "TypeError", "KeyError", "NotImplementedError", "NotImplemented", "iter", "property", "pow",
+    "ValueError", "TypeError", "KeyError", "NotImplementedError", "NotImplemented", "iter", "property", "pow", "classmethod",
 }
 ALL_BUILTINS = set(dir(__builtins__) if not isinstance(__builtins__, dict) else __builtins__)
 CHANGING = {"append", "extend", "insert", "pop", "remove", "clear", "update", "setdefault", "reverse", "add", "discard"}
