@@ -130,19 +130,25 @@ class FreeSamples:
         return True
 
     def grow(self):
-        waiting = list(range(len(self.coded.code)))
+        """A row is looked at again when a rule that it calls has a new sample."""
+        code = self.coded.code
+        waiting = [(number, k) for number in range(len(code)) for k in range(len(code[number][1]))]
+        due = {place: True for place in waiting}
         while waiting:
-            number = waiting.pop()
-            if self.grow_rule(number):
-                callers = sorted({caller for caller, _ in self.coded.callers[number]})
-                waiting.extend([caller for caller in callers if caller not in waiting])
+            place = waiting.pop()
+            due[place] = False
+            if self.grow_row(place[0], place[1]):
+                more = [other for other in self.coded.callers[place[0]] if not due[other]]
+                for other in more:
+                    due[other] = True
+                waiting.extend(more)
 
-    def grow_rule(self, number):
-        """Whether some row of the rule gives a new sample."""
-        rows = self.coded.code[number][1]
-        having = [k for k in range(len(rows)) if self.coded.row_acts[number][k]]
-        noted = [self.batches[number].note_all(rows[k][0], self.acts_batch(rows[k][1]).samples) for k in having]
-        return any(noted)
+    def grow_row(self, number, k):
+        """Whether the row gives a new sample of the rule."""
+        if not self.coded.row_acts[number][k]:
+            return False
+        head, acts = self.coded.code[number][1][k]
+        return self.batches[number].note_all(head, self.acts_batch(acts).samples)
 
     def act_batch(self, act):
         word = act[0]

@@ -176,7 +176,7 @@ class SureTest(unittest.TestCase):
             self.assertEqual(form, ("tuple", (ANY, ANY)))
             bits = samples(code, held)
             self.assertEqual(len(set(bits)), len(bits))
-            self.assertGreater(len(bits), 2 * many)
+            self.assertGreater(len(bits), many)
             self.assertEqual(feed(code, held, bits[-1])[0][0], "thing")
         chain = (("one", (("0", (PUT,)), ("1", (("tuple", (("call", 0),)),)))),)
         self.assertEqual(sure(chain, begun(chain)[1]), ANY)
