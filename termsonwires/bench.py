@@ -246,7 +246,7 @@ class CarefulBench(Bench):
         bits = self._coming(count)
         run = self._run()
         many = 0
-        while many < len(bits) and not run.is_dead():
+        while many < len(bits):
             events = run.take(bits[many])
             if any([event[0] == "dead" for _, event, _ in events]):
                 return self._take_bits(count, bits[:many])

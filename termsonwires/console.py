@@ -62,7 +62,7 @@ def command_told(command):
     if word == "renew" and words == []:
         return [word, ""]
     if word in BARE:
-        return [word] if words == [] and not blank else None
+        return None if blank else [word]
     found = arguments_of(words, ("name",) if word == "renew" else KINDS.get(word, ()))
     return None if found is None or (word != "renew" and word not in KINDS) else [word, *found]
 

@@ -3,7 +3,7 @@
 from termsonwires.codedemands import is_held_of, need_held, need_sound_code
 from termsonwires.codes import table_of_lengths
 from termsonwires.demands import need_bit, need_bits
-from termsonwires.kinds import is_string, is_tuple, is_within
+from termsonwires.kinds import is_integer, is_string, is_tuple
 from termsonwires.runs import Run, first_run
 
 
@@ -113,7 +113,7 @@ def death(code, held, bit):
 
 def is_frame_paper(run, value):
     """Whether the value is a paper of a frame that can not be filled, the bit being taken."""
-    if len(value) != 3 or not is_within(value[1], 0, len(run.frames) - 1) or run.frames[value[1]].word != "sized":
+    if len(value) != 3 or not is_integer(value[1]) or value[1] < 0:
         return False
     table = table_of_lengths(run.coded, value[2])
     return table is not None and value[1] in run.unfilled_frames(table)

@@ -87,7 +87,7 @@ def either_without_dropped(part):
 
 
 def bits_ahead(part):
-    if not is_term_kind(part, "either") and not is_term_kind(part, "table") or not is_leading(part):
+    if not is_leading(part):
         return None
     start = common_beginning(tags_in(part))
     many = len(start)

@@ -8,7 +8,7 @@ from termsonwires.faultrows import faultless_table, one_begins_another, sound_ta
 from termsonwires.flows import Flow, is_stream_of, new_stream
 from termsonwires.kinds import LETTERS, is_ascending, is_bits, is_integer, is_string, is_tuple, is_tuple_of, is_within
 from termsonwires.nodes import Nodes
-from termsonwires.numberwords import MOST_SIZED, is_number, number_words
+from termsonwires.numberwords import number_words
 from termsonwires.termparts import sheet_of_term
 from termsonwires.terms import is_any_sheet, is_any_term, refs_of
 
@@ -17,16 +17,13 @@ MOST_LETTERS = 8
 
 
 def size_words(size):
-    """The integers that the size has, with their words."""
+    """The integers that the size has, with their words; {} for a term that is no number term up to 40."""
     nodes = Nodes(sheet_of_term(("sized", size, ("bits", ""))))
     return number_words(nodes)[nodes.parts[nodes.root][0]]
 
 
 def is_size(value):
-    if not is_any_term(value) or refs_of(value):
-        return False
-    nodes = Nodes(sheet_of_term(value))
-    if not is_number(nodes, nodes.root, MOST_SIZED) or told_faults(nodes):
+    if not is_any_term(value) or refs_of(value) or told_faults(Nodes(sheet_of_term(value))):
         return False
     return 1 in size_words(value)
 
@@ -159,7 +156,7 @@ class LinkRun:
         else:
             self.reading = (*self.reading[:-1], self.reading[-1] + bit)
         self.go_on()
-        if self.reading[0] in ("tag", "size") and not self.wired.is_reading(self.reading):
+        if not self.wired.is_reading(self.reading):
             self.reading = ("dead",)
             events.append(("", ("dead", self.index), self.index))
         return events

@@ -169,7 +169,7 @@ class BenchTest(unittest.TestCase):
         bench.pack("a", 3)
         bench.pack("b", 2)
         bench.take(3)
-        strange = [None, "", "d", 1, True, ("a",), [], SubStr("a"), "A"]
+        strange = [None, "", "d", 1, True, ("a",), [], SubStr("a"), SubStr(""), "A"]
         for call in (lambda name: bench.send(name, None), lambda name: bench.pack(name, None), bench.queue, bench.things, bench.sure):
             self.check(bench, UnknownLine, call, *[(name,) for name in strange])
         self.check(bench, UnknownLine, bench.renew, *[(name,) for name in strange if name != "" or type(name) is not str])
@@ -247,8 +247,12 @@ class BenchTest(unittest.TestCase):
         bench.pack("bb", 1)
         self.assertEqual(bench.take(99), len(bench.tape) - 3)
         self.assertEqual(bench.events()[1:], [("bb", ("thing", ("a",), 4), bench.taken)])
-        one = Bench(ONE)
-        self.assertEqual(one.link()[1], ("size", "one", ""))
+        one = Bench((("table", ((1, "0"), (3, "10"))), (("one", "", THREE),)))
+        one.put(0, "1")
+        one.put(0, "1")
+        self.assertEqual((one.take(9), one.dead(), one.link()[1]), (2, [""], ("dead",)))
+        one.renew("")
+        self.assertEqual((one.dead(), one.link()[1]), ([], ("size", "one", "")))
 
     def test_undo_of_each_deed(self):
         """N5."""
@@ -389,7 +393,7 @@ class BenchTest(unittest.TestCase):
         self.assertFalse(CarefulBench(WIRE) == Bench(WIRE))
         self.assertTrue(CarefulBench(WIRE) == CarefulBench(WIRE))
         self.assertFalse(Bench(WIRE) == Bench(FOUR))
-        for value in ANY_VALUES + [WIRE, [], ()]:
+        for value in ANY_VALUES + [WIRE, [], (), type("Bench", (), {})()]:
             self.assertFalse(one == value)
             self.assertFalse(value == one)
             self.assertTrue(one != value)
@@ -497,6 +501,11 @@ class FactsTest(unittest.TestCase):
             with self.assertRaises(InvalidDeeds) as caught:
                 replay(WIRE, good + [deed, None])
             self.assertEqual(caught.exception.index, 6)
+        for k, deed in enumerate(good):
+            for bent in (deed + (1,), deed[:-1], ("put", 0), ("foo", 0, "1"), ("foo", 1), ("renew", "a", "1"), ("take", 1, "1"), (deed[0] + "s",) + deed[1:]):
+                with self.assertRaises(InvalidDeeds) as caught:
+                    replay(WIRE, good[:k] + [bent])
+                self.assertEqual(caught.exception.index, k)
         for k in range(6):
             with self.assertRaises(InvalidDeeds) as caught:
                 replay(WIRE, good[:k] + [("take", 0)] + good[k:])

@@ -110,6 +110,20 @@ class MisfitTest(unittest.TestCase):
         self.assertEqual(len(misfit(one(("counted", ("width", 1), ("width", 1))), ("table", (((), ()),)))), 1)
         self.assertIsNone(misfit(one(("row", (("bits", "1"), ("table", ())))), ("table", ())))
 
+    def test_bounded_numbers_of_items(self):
+        """In a sized term an until has just the numbers of items that its sizes leave."""
+        items = ("until", "1", ("bits", "0"))
+        shapes = {0: ("tuple", ()), 1: ("tuple", (("any", 0),)), 2: ("tuple", (("any", 0), ("any", 1)))}
+        for sizes in ((1,), (2,), (1, 2), (1, 3), (2, 3), (1, 2, 3)):
+            sheet = one(("sized", ("table", tuple((n, code) for n, code in zip(sizes, ("00", "01", "1")))), items))
+            for many in ((0,), (1,), (2,), (1, 0), (2, 0), (2, 1), (2, 1, 0)):
+                mapping = ("rules", tuple(sorted(((shapes[k], ("tuple", shapes[k][1] + (("atom", k),))) for k in many), key=lambda rule: plainmaps.text(rule[0]))))
+                left = [n - 1 for n in sizes if n - 1 not in many]
+                thing = misfit(sheet, mapping)
+                self.assertEqual(thing is None, left == [], (sizes, many))
+                if left:
+                    self.assertIn(len(thing), left)
+
     def test_errors_in_their_order(self):
         for bad in ANY_VALUES:
             with self.assertRaises(InvalidSheet):
@@ -169,6 +183,8 @@ class UnkeptTest(unittest.TestCase):
                 unkept(TREE, bad, bad, most=bad)
             with self.assertRaises(InvalidSheet):
                 unkept(bad, SAME, FAULTY)
+            with self.assertRaises(InvalidSheet):
+                unkept(FAULTY, SAME, bad)
             with self.assertRaises(InvalidMap):
                 unkept(TREE, bad, TREE, most=bad)
         for bad in (13, -1, True, None, "8", SubInt(8), 10 ** 80):

@@ -43,7 +43,7 @@ class IsCodeTest(unittest.TestCase):
         self.check(
             [EXAMPLE, (("one", ()),), code(("", (PUT,))), code(("0" * 500, (PUT,))), code(("0", (PUT,)), ("0", (PUT,))), (ONE, MANY), (ONE, ("many", ())), UNSOUND,
              (ONE, ("many", (("0", (PUT, PUT, PUT)),)))],
-            ANY_VALUES + [(MANY,), (MANY, ONE), (("many", ()),), (("two", ()),), ("one", ()), (("one", [])), (["one", ()],), [("one", ())], (("one", (), ()),), (("one",),), SubTuple((("one", ()),)),
+            ANY_VALUES + [(MANY,), (MANY, ONE), (("many", ()),), (("two", ()),), (ONE, ("two", ())), (ONE, ("", ())), ("one", ()), (("one", []),), (ONE, ("many", [])), (["one", ()],), [("one", ())], (("one", (), ()),), (("one",),), SubTuple((("one", ()),)),
              ((SubStr("one"), ()),), code(("2", (PUT,))), code((0, (PUT,))), code((SubStr("0"), (PUT,))), code(["0", (PUT,)]), code(("0", [PUT])), code(("0", (PUT,), ())), code(("0", ())),
              code(("0", (PUT, PUT))), code(("0", PUT)), code(("0", (None,))), (ONE, ("many", (("0", (None,)),)))])
 
@@ -62,7 +62,7 @@ class IsCodeTest(unittest.TestCase):
             ("tuple", [PUT]), ("tuple", (PUT, 0)), ("tuple", (PUT,), ()), ("label", "a"), ("label", PUT, "a"), ("label", 1, PUT), ("label", "x" * 13, PUT), ("label", "%", PUT), ("label", "a", 0),
             ("label", "a", PUT, PUT), ("sized", 41, PUT), ("sized", -1, PUT), ("sized", True, PUT), ("sized", "1", PUT), ("sized", 1), ("sized", 1, PUT, PUT), ("sized", 1, None), ("checked", PARITY, 2, PUT),
             ("checked", PARITY, -1, PUT), ("checked", PARITY, True, PUT), ("checked", PARITY, PUT), ("checked", PARITY, 0), ("checked", (), 0, PUT), ("checked", ((0, 1, "0"),), 0, PUT), ("checked", [PARITY[0]], 0, PUT),
-            ("checked", ((0, 0, ""),), 0, PUT), ("checked", ((0, 0, "10101"),), 0, PUT), ("checked", row8 + PARITY[:1], 0, PUT), ("checked", PARITY, 0, None), ("checked", PARITY, 0, PUT, PUT), ("many", PUT)]
+            ("checked", ((0, 0, ""),), 0, PUT), ("checked", ((0, 0, "10101"),), 0, PUT), ("checked", row8 + PARITY[:1], 0, PUT), ("checked", PARITY, 0, None), ("checked", PARITY, 0, PUT, PUT), ("many", PUT), ("chequed", PARITY, 0, PUT), ("marked", 1, PUT)]
         self.check([of_act(act) for act in good], [of_act(act) for act in bad])
         self.check([of_act(("tuple", (PUT, act))) for act in good], [of_act(("label", "a", act)) for act in bad])
         self.check([(ONE, ("many", (("0", (act, PUT)),))) for act in good], [(ONE, ("many", (("0", (PUT, act, PUT)),))) for act in bad if act != ("call", 1)])
@@ -226,7 +226,9 @@ class CodeOfTest(unittest.TestCase):
 
     def test_named_sheets(self):
         long = ("m", (("m", ("until", "00", ("bits", "010"))), ))
-        for sheet in (TREE, EVEN, BOX, CODES, long, ("m", (("m", ("bits", "")),)), ("m", (("m", ("width", 8)),)), ("m", (("m", ("width", 0)),)), ("m", (("m", ("until", "101110", ("checked", PARITY, ("width", 3)))),))):
+        empty_rest = ("sized", ("table", ((2, "1"),)), ("row", (("bits", "00"), ("bits", ""), ("width", 0))))
+        inner = ("until", "11", ("checked", ((0, 0, "1010"),), ("bits", "0")))
+        for sheet in (TREE, EVEN, BOX, CODES, long, ("m", (("m", ("until", "101", empty_rest)),)), ("m", (("m", ("until", "0111", inner)),)), ("m", (("m", ("until", "010111", inner)),)), ("m", (("m", ("bits", "")),)), ("m", (("m", ("width", 8)),)), ("m", (("m", ("width", 0)),)), ("m", (("m", ("until", "101110", ("checked", PARITY, ("width", 3)))),))):
             value = code_of(sheet)
             self.assertIsNone(code_fault(value))
             for bits in oracle.all_bits(7):

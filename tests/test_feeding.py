@@ -129,6 +129,14 @@ class FeedTest(unittest.TestCase):
         self.assertEqual(held[1], ("check", "0"))
         self.assertEqual(held_behind(CHECKED, "0010"), (((("whole",), (), ()), (("checked", PARITY, 1), ((0, 0),), ())), ("check", "1")))
 
+    def test_closed_frames_count_no_more(self):
+        """The state of a checked frame stays while its own check is read, whatever was closed in it."""
+        machine = ((1, 1, "10"), (0, 0, "01"))
+        code = (("one", (("", (("checked", machine, 0, ("tuple", (("checked", PARITY, 0, ("call", 1)), ("sized", 1, ("call", 1))))),)),)), BIT)
+        self.assertEqual(held_behind(code, "111")[0], ((("whole",), (), ()), (("checked", machine, 1), ((1, 1),), ())))
+        self.assertEqual(held_behind(code, "1110"), (((("whole",), (), ()), (("checked", machine, 1), ((1, 1),), ())), ("check", "1")))
+        self.assertEqual(answer_of(code, "11101"), ("thing", (1, 1), 5))
+
     def test_steps_of_each_kind(self):
         for code, bits, many in (
                 (EXAMPLE, "0", 4), (EXAMPLE, "1", 3), (EXAMPLE, "11", 3 + 2), (EXAMPLE, "110", 3 + 2 + 6), (SIZED, "1", 1), (SIZED, "11", 3), (SIZED, "11110", 1 + 2 + 1 + 2 + 3),

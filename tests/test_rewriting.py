@@ -176,7 +176,7 @@ class RowsTest(unittest.TestCase):
         self.assertGreater(len(row), 1)
         self.assertIs(is_rewriting_row(T, []), True)
         self.assertIs(is_rewriting_row(NO, []), True)
-        bad = ANY_VALUES + [tuple(row), SubList(row), row + [None], [list(row[0])], [row[0] + (1,)], [row[0][:1]], [SubTuple(row[0])], [(list(row[0][0]), row[0][1])], [((), ())], [((), None)], [((), "")], [((True,), "tag")]]
+        bad = ANY_VALUES + [tuple(row), SubList(row), row + [None], [list(row[0])], [row[0] + (1,)], [row[0][:1]], [SubTuple(row[0])], [(list(row[0][0]), row[0][1])], [((), ())], [((), [])], [((), None)], [((), "")], [((True,), "tag")]]
         for value in bad:
             self.assertIs(is_rewriting_row(T, value), value == [] and type(value) is list)
             if value == [] and type(value) is list:
@@ -245,9 +245,21 @@ class RoadTest(unittest.TestCase):
         twice = ("row", (once, once))
         self.assertIs(is_road(twice, ("row", (W1, W1)), [twice, ("row", (W1, W1))]), False)
         self.assertIs(is_road(twice, ("row", (W1, W1)), [twice, ("row", (W1, once)), ("row", (W1, W1))]), True)
-        bad = ANY_VALUES + [(once, W1), SubList([once, W1]), [once, ("width", True), W1][1:], [once, None, W1], [once, ("ref", "t"), W1], [once, ("width", 9), W1]]
+        bad = ANY_VALUES + [(once, W1), SubList([once, W1]), [once, ("width", True), W1][1:], [once, None, W1], [once, ("ref", "t"), W1], [once, ("ref", "u"), W1], [once, ("width", 9), W1]]
         for value in bad:
             self.assertIs(is_road(once, W1, value), False)
+        self.assertIs(is_road(("times", 2, once), ("times", 3, W1), [("times", 2, once), ("times", 3, W1)]), False)
+        self.assertIs(is_road(("times", 2, once), ("times", 2, W1), [("times", 2, once), ("times", 2, W1)]), True)
+        bent = ("counted", ("checked", ((1, 1, "1"), (0, 0, "1")), ("table", ((0, "0"), (1, "1")))), W1)
+        plain = ("counted", ("checked", ((0, 0, "1"),), ("table", ((0, "0"), (1, "1")))), W1)
+        self.assertIs(is_road(bent, plain, [bent, plain]), False)
+        self.assertIsNotNone(road(bent, plain))
+        whole = ("either", (("a", "0", W1),))
+        self.assertIs(is_road(whole, whole, [whole, ("either", (("a", "0", W1), ("b", "1", NO))), whole]), True)
+        self.assertIs(is_road(whole, whole, [whole, ("either", (("a", "0", W1), ("b", "0", NO))), whole]), False)
+        for one, other in ((None, W1), (W1, None), (FAULTY, W1), (W1, FAULTY)):
+            with self.assertRaises((InvalidTerm, Faulty)):
+                is_road(one, other, None)
         faulty = ("table", ((1, "0"), (2, "0"), (3, "01")))
         self.assertIs(is_road(W1, W1, [W1, faulty, W1]), False)
 

@@ -102,6 +102,25 @@ class RulesTest(unittest.TestCase):
         self.check_not(("either", (("a", "1", ("row", (("times", 1, EMPTY),))),)), "way", "void", "single")
         self.check_not(("row", (W1, W1)), "void", "alone")
 
+    def test_long_words(self):
+        """Things are counted, however long their words are; sizes are told up to 40."""
+        one, two = "01" * 25, "10" * 30
+        self.check(("row", (("table", (("a", one),)), EMPTY)), "alone", ("bits", one), ("a", ()), ())
+        for rows in ((("a", one), ("b", two)), (("a", one), ("b", one[::-1])), (("a", one), ("b", "1" * 41)), (("a", "0" * 41), ("b", "1" * 41)), (("a", "0" * 40), ("b", "1" * 41))):
+            term = ("row", (("table", rows),))
+            self.check(term, "single", ("table", rows))
+            self.check_not(term, "alone", "void")
+            self.check_not(("row", (("bits", "1"), ("table", rows))), "alone", "void", "single")
+            self.check(("either", (("x", "0", ("table", rows[:1])),)), "alone", ("bits", "0" + rows[0][1]))
+            self.check_not(("either", (("x", "0", ("table", rows[:1])), ("y", "1", ("table", rows[1:])))), "alone")
+        forty = ("table", (("a", "0" * 40), ("b", "1" * 41)))
+        self.check(("sized", ("table", ((40, "0"), (39, "1"))), forty), "alone", ("bits", "0" * 41))
+        mixed = ("table", (("a", "0" * 40), ("b", "10" * 20), ("c", "11" * 25)))
+        self.check_not(("sized", ("table", ((40, "0"),)), mixed), "sure", "alone", "listed")
+        self.check(("sized", ("table", ((40, "0"), (39, "1"))), mixed), "listed", ("sized", ("table", ((40, "0"),)), mixed))
+        self.check_not(("until", "1", ("bits", "0")), "alone")
+        self.check_not(("until", "1", ("bits", "0" * 50)), "alone")
+
     def test_rows(self):
         inner = ("row", (W1, ("row", (W1,))))
         self.check(("row", (W1, inner, EMPTY)), "open", ("row", (W1, W1, ("row", (W1,)), EMPTY)), (0, (1, (1,)), ()), (0, 1, (1,), ()))
@@ -132,13 +151,15 @@ class RulesTest(unittest.TestCase):
         self.check(tagged, "tag", new, ("b", ()), ("b", ()))
         self.check_not(("either", (("a", "0", ("row", (EMPTY, W1))), ("b", "1", ("row", (W1, ("bits", "1")))))), "tag")
         self.check_not(("either", (("a", "0", ("row", ())), ("b", "1", EMPTY))), "tag")
+        beside = ("either", (("a", "0", ("row", (W1, W1))), ("b", "1", ("row", (("bits", "0"), W1)))))
+        self.check(beside, "tag", ("either", (("a", "0", ("row", (W1, W1))), ("b", "10", ("row", (W1,))))), ("a", (0, 1)), ("a", (0, 1)))
 
     def test_tables(self):
         self.check(("table", (("b", "01"), ("a", "00"))), "order", ("table", (("a", "00"), ("b", "01"))), "a", "a")
         self.check(("table", (("b", "01"), ("a", "00"))), "ahead", ("row", (("bits", "0"), ("table", (("b", "1"), ("a", "0"))))), "a", ((), "a"))
         self.check(("table", ((2, "10"), (0, "00"), (1, "01"), (3, "11"))), "whole", ("width", 2), 2, 2)
         self.check(("table", ((0, "0"), (1, "1"))), "whole", ("width", 1))
-        for rows in (((0, "0"), (1, "11")), ((0, "1"), (1, "0")), (("0", "0"), ("1", "1")), ((0, "00"), (1, "01"), (2, "10")), ((0, "00"), (1, "01"))):
+        for rows in (((0, "0"), (1, "11")), ((0, "1"), (1, "0")), (("0", "0"), ("1", "1")), ((0, "00"), (1, "01"), (2, "10")), ((0, "00"), (1, "01")), ((0, "0"), (2, "10")), ((1, "1"), (-1, "01")), tuple((k, format(k, "09b")) for k in range(512))):
             self.check_not(("table", rows), "whole")
         eight = tuple((k, format(k, "08b")) for k in range(256))
         self.check(("table", eight), "whole", ("width", 8), 200, 200)
@@ -210,7 +231,7 @@ class RulesTest(unittest.TestCase):
                 (EMPTY, 1), (NO, 1), (("bits", "0"), 2), (W1, 3), (("row", ()), 3), (("times", 2, W1), 6), (("until", "1", ("bits", "0")), 5),
                 (("table", (("a", "0"),)), 4), (("table", (("a", "0"), ("b", "1"))), 4), (("table", (("a", "1"), ("b", "0"))), 5), (("table", (("a", "00"), ("b", "01"))), 10),
                 (("table", (("a", "01"), ("b", "00"))), 11), (("either", ()), 2), (led, 2 + 12 + 6 + 1 + 1 + 3), (("either", (("a", "0", NO), ("b", "1", NO))), 16),
-                (("either", (("a", "01", NO), ("b", "00", NO))), 17), (("counted", ("table", ((0, "0"), (1, "1"))), W1), 13), (("counted", W1, W1), 14), (("counted", W1, NO), 12),
+                (("either", (("a", "01", NO), ("b", "00", NO))), 17), (("counted", ("table", ((0, "0"), (1, "1"))), W1), 13), (("counted", W1, W1), 14), (("counted", W1, NO), 12), (("counted", ("table", ((0, "0"),)), NO), 11),
                 (("sized", ("table", ((1, "0"),)), W1), 9), (("sized", ("table", ((2, "0"),)), W1), 10), (("checked", ((0, 0, "1"),), W1), 9), (("checked", ((1, 1, "1"), (0, 0, "1")), W1), 10)):
             self.assertEqual(weight(term), many, term)
 

@@ -88,6 +88,8 @@ class FedTest(unittest.TestCase):
             with self.assertRaises(Unfit):
                 opened(code)
         self.assertEqual(opened(EXAMPLE), (0, 0, begun(EXAMPLE)[1]))
+        short = (("one", (("0", (PUT,)), ("1", (PUT,)))),)
+        self.assertEqual(fed(short, opened(short), "01"), ((2, 2, begun(short)[1]), [("thing", 0, 1), ("thing", 0, 2)]))
         long = (("one", (("0" * 50, (PUT,)),)),)
         self.assertEqual(opened(long), (0, 0, begun(long)[1]))
         for sheet in (("m", (("m", ("width", 0)),)), ("m", (("m", ("table", ())),))):

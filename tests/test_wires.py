@@ -262,7 +262,7 @@ class LinkTest(unittest.TestCase):
         good = [row(("tag", "")), row(("size", "a", "")), row(("size", "b", "1")), row(("piece", "a", 1)), row(("piece", "b", 3)), row(("dead",)), row(("dead",), (other, (0, 5, ()))), row(("tag", ""), (other, held), 10 ** 30), row(("tag", ""), ((7, 99, ()), other))]
         bad = ANY_VALUES + [
             row(("tag", "0")), row(("tag", "1")), row(("tag", "2")), row(("tag", None)), row(("tag",)), row(("tag", "", "")), row(("size", "a", "00")), row(("size", "a", "11")), row(("size", "c", "")), row(("size", "a")), row(("size", None, "")),
-            row(("size", "a", 0)), row(("piece", "a", 0)), row(("piece", "a", 4)), row(("piece", "a", True)), row(("piece", "a", -1)), row(("piece", "", 1)), row(("piece", "a")), row(("piece", "a", "1")), row(("dead", 0)), row(("Tag", "")), row(["tag", ""]),
+            row(("size", "a", 0)), row(("piece", "a", 0)), row(("piece", "a", 4)), row(("piece", "a", True)), row(("piece", "a", -1)), row(("piece", "", 1)), row(("piece", "a")), row(("piece", "a", "1")), row(("dead", 0)), row(("Tag", "")), row(["tag", ""]), row(("peace", "a", 1)),
             row(None), row(()), row((0, "")), row(("tag", ""), (held,)), row(("tag", ""), (held, held, held)), row(("tag", ""), [held, held]), row(("tag", ""), (held, None)), row(("tag", ""), (held, (1, 0, ()))), row(("tag", ""), (held, held), -1),
             row(("tag", ""), (held, held), True), row(("tag", ""), (held, held), "0"), (0, ("tag", "")), (0, ("tag", ""), (held, held), 0), [0, ("tag", ""), (held, held)], SubTuple(row(("tag", ""))), row(("tag", ""), (held, fed(code_of(TREE), opened(code_of(TREE)), "0")[0])),
             row(SubTuple(("dead",))), row((SubStr("dead"),)), row(("piece", SubStr("a"), 1))]
