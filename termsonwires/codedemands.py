@@ -23,11 +23,11 @@ def is_frame_kind(value):
 
 
 def is_frame(value, kinds):
-    """Whether the value is a frame, its things and acts being of the right number as far as its kind tells."""
+    """Whether the value is a frame; how many things it has is not looked at."""
     if not is_tuple_of(value, 3) or not is_frame_kind(value[0]) or not is_tuple(value[1]) or not is_tuple(value[2]):
         return False
     if value[0][0] != "tuple":
-        return len(value[1]) < 2 and value[2] == () and is_deep_plain(value[1])
+        return value[2] == () and is_deep_plain(value[1])
     return is_deep_plain(value[1]) and are_acts(value[2], kinds, True)
 
 

@@ -92,7 +92,10 @@ class ExactSamples(Solver):
 
 
 class FreeSamples:
-    """The batches of all words of rules; they grow from the least word of each until nothing is added."""
+    """The batches of all words of rules; they grow from the least word of each until nothing is added.
+
+    The code is sound, so each row has a word.
+    """
 
     def __init__(self, coded):
         self.coded = coded
@@ -110,7 +113,7 @@ class FreeSamples:
         """The least word of the rule, if those of the rules that it calls are there."""
         for head, acts in self.coded.code[number][1]:
             many = self.coded.acts_least(acts)
-            if many is not None and len(head) + many == self.coded.least[number] and self.are_started(acts):
+            if len(head) + many == self.coded.least[number] and self.are_started(acts):
                 self.batches[number].note_all(head, self.acts_batch(acts).samples[:1])
                 self.started[number] = True
                 return
@@ -145,8 +148,6 @@ class FreeSamples:
 
     def grow_row(self, number, k):
         """Whether the row gives a new sample of the rule."""
-        if not self.coded.row_acts[number][k]:
-            return False
         head, acts = self.coded.code[number][1][k]
         return self.batches[number].note_all(head, self.acts_batch(acts).samples)
 

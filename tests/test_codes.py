@@ -228,7 +228,11 @@ class CodeOfTest(unittest.TestCase):
         long = ("m", (("m", ("until", "00", ("bits", "010"))), ))
         empty_rest = ("sized", ("table", ((2, "1"),)), ("row", (("bits", "00"), ("bits", ""), ("width", 0))))
         inner = ("until", "11", ("checked", ((0, 0, "1010"),), ("bits", "0")))
-        for sheet in (TREE, EVEN, BOX, CODES, long, ("m", (("m", ("until", "101", empty_rest)),)), ("m", (("m", ("until", "0111", inner)),)), ("m", (("m", ("until", "010111", inner)),)), ("m", (("m", ("bits", "")),)), ("m", (("m", ("width", 8)),)), ("m", (("m", ("width", 0)),)), ("m", (("m", ("until", "101110", ("checked", PARITY, ("width", 3)))),))):
+        framed = ("row", (("sized", ("table", ((1, "0"),)), ("bits", "1")), ("bits", "0"), ("width", 2)))
+        done = ("row", (("either", (("x", "0", ("width", 1)), ("y", "11", ("bits", "00")))), ("width", 1)))
+        begun_one = ("row", (("either", (("x", "0", ("width", 1)), ("z", "11", ("row", (("bits", "0"), ("width", 1)))))), ("width", 1)))
+        untils = [("m", (("m", ("until", mark, item)),)) for mark, item in (("0111", framed), ("1101", done), ("111", begun_one), ("1011", begun_one))]
+        for sheet in (*untils, TREE, EVEN, BOX, CODES, long, ("m", (("m", ("until", "101", empty_rest)),)), ("m", (("m", ("until", "0111", inner)),)), ("m", (("m", ("until", "010111", inner)),)), ("m", (("m", ("bits", "")),)), ("m", (("m", ("width", 8)),)), ("m", (("m", ("width", 0)),)), ("m", (("m", ("until", "101110", ("checked", PARITY, ("width", 3)))),))):
             value = code_of(sheet)
             self.assertIsNone(code_fault(value))
             for bits in oracle.all_bits(7):

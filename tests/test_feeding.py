@@ -230,7 +230,8 @@ class HeldTest(unittest.TestCase):
             row((("sized", 0), (), ())), row((("sized", 41), (), ())), row((("sized", -1), (), ())), row((("sized", True), (), ())), row((("sized", 2), (), ())), row((("sized", 1), (), ()), (("tuple",), (), (("call", 1),))),
             row((("sized", 2), (), ()), (("checked", PARITY, 0), (), ()), (("sized", 2), (), ())), row((("tuple",), (), (("sized", 1, PUT),))), row((("tuple",), (), (("call", 2), PUT))), row((("tuple",), (), (("call", 3),))),
             row((("tuple",), (), (None,))), row((("tuple",), (), [PUT])), row((("tuple",), [0], ())), row((("tuple",), (True,), ())), row((("tuple",), (None,), ())), row((("tuple", 1), (), ())), row((("tuple",), ())), row((("tuple",), (), (), ())),
-            row(("tuple", (), ())), row(whole), row((("label", "a"), (0,), ())), row((("label", "a"), (), (PUT,))), row((("label", 1), (), ())), row((("label", "x" * 13), (), ())), row((("label",), (), ())), row((("sized", 1), (), (PUT,))),
+            row(("tuple", (), ())), row((["tuple"], (), ())), row(((), (), ())), row(((1,), (), ())), row((("sized",), (), ())), row((("sized", 1, 1), (), ())), row((("sized", None), (), ())), row((("checked", 5, 0), (), ())),
+            row((("checked", list(PARITY), 0), (), ())), row((("checked", PARITY, 0, 0), (), ())), row((("tuple",), [], ())), row((("tuple",), (), [])), row((("label", "a", "b"), (), ())), row(whole), row((("label", "a"), (0,), ())), row((("label", "a"), (), (PUT,))), row((("label", 1), (), ())), row((("label", "x" * 13), (), ())), row((("label",), (), ())), row((("sized", 1), (), (PUT,))),
             row((("checked", PARITY, 2), (), ())), row((("checked", PARITY, 0), (0,), ())), row((("checked", PARITY), (), ())), row((("checked", (), 0), (), ())), row((("some",), (), ())), ((), reading), ((tuples,), reading),
             ((tuples, whole), reading), (((("whole",), (0,), ()),), reading), (((("whole",), (), (PUT,)),), reading), ([whole], reading), [(whole,), reading], ((whole,), reading, ()), ((whole,),), SubTuple(row())]
         self.check(code, good, bad)
@@ -244,7 +245,8 @@ class HeldTest(unittest.TestCase):
             row(("rule", 0, "00")), row(("rule", 0, "1")), row(("rule", 0, "011")), row(("rule", 1, "")), row(("rule", 1, ""), (("label", "a"), (), ())), row(("rule", 1, ""), (("tuple",), (), (PUT,))), row(("rule", 2, "")),
             row(("rule", 3, "")), row(("rule", -1, "")), row(("rule", True, "")), row(("rule", 0, 0)), row(("rule", 0)), row(("rule", 0, "", "")), row(("Rule", 0, "")), row(["rule", 0, ""]), row(None), row(()), row(("rule", "0", "")),
             row(("rule", 0, SubStr(""))), row(("rule", SubInt(0), "")), row(("rule", 0, "2")), row(("check", ""), check), row(("check", "1"), check), row(("check", "01"), check), row(("check", "110"), check), row(("check", "0")),
-            row(("check", "0"), tuples), row(("check", "0"), (check[0], (), ())), row(("check", "0"), (check[0], (0, 0), ())), row(("check", "0"), (check[0], (0,), (PUT,))), row(("check", "0"), check, tuples), row(("check", "0"), check, check),
+            row(("check", "0"), tuples), row(("check", "0"), (check[0], (), ())), row(("check", "0"), (check[0], (0, 0), ())), row(("check", "0"), (check[0], (0,), (PUT,))), row(("check", "0"), check, tuples), row(("check", "0"), check, check), row(("check", "0"), (check[0], (True,), ())), row(("check", "0"), (("label", "a"), (0,), ()), (check[0], (), ())),
+            row(("check", "0"), (("label", "a"), (0,), ()), check), row(None, check), row("check", check), row(("check",), check),
             row(("check", "0", ""), check), row(("check", 0), check), row(("check", "10"), (("checked", check[0][1], 1), (0,), ()))]
         self.check(code, good, bad)
 

@@ -218,6 +218,43 @@ class FixedTest(unittest.TestCase):
         self.assertIsNotNone(two_places(sheet, (1, 1)))
         self.assertIsNone(two_places(sheet, (1, 1, 1)))
 
+    def test_frames_of_forty_bits(self):
+        items, wide = ("until", "1", ("bits", "0")), ("times", 4, ("width", 8))
+        forty = ("table", ((40, ""),))
+        ahead = one(("sized", forty, ("row", (items, wide))))
+        self.assertIsNone(two_places(ahead, (1, 1)))
+        self.assertEqual(place_by(ahead, (1, 1), (40,)), 8)
+        behind = one(("sized", forty, ("row", (("bits", ""), ("times", 5, ("width", 8))))))
+        self.assertEqual(place_by(behind, (1, 0), (40,)), 0)
+        last = one(("sized", forty, ("row", (("times", 5, ("width", 8)), ("bits", "")))))
+        self.assertEqual(place_by(last, (1, 1), (40,)), 40)
+        known = one(("sized", forty, ("row", (("sized", ("table", ((36, "0110"),)), ("row", (wide, ("width", 4)))), ("bits", "")))))
+        self.assertEqual(place_by(known, (1, 1), (40, 36)), 40)
+
+    def test_sizes_of_several_rows(self):
+        """Known sizes stand in the sequence of the path; two things have them all alike."""
+        items = ("until", "1", ("bits", "0"))
+        three, one_bit = ("sized", ("table", ((3, "0"), (4, "1"))), items), ("sized", ("table", ((1, "00"), (2, "01"))), items)
+        sheet = one(("row", (three, ("row", (one_bit, items, W1)))))
+        parts = [plainspots.part_at(sheet, thing, (1, 2)) for thing in two_places(sheet, (1, 2))]
+        self.assertEqual(parts[0][3], parts[1][3])
+        self.assertNotEqual(parts[0][0], parts[1][0])
+        inner = ("sized", ("table", ((4, "0"), (6, "1"))), ("row", (items, items, W2)))
+        deep = one(("row", (one_bit, ("sized", ("width", 4), ("row", (three, items, inner))))))
+        self.assertIsNotNone(two_places(deep, (1, 1, 2)))
+        self.assertIsNone(two_places(deep, (1, 1, 2, 1)))
+        things = two_places(deep, (1, 1, 2, 1, 1))
+        parts = [plainspots.part_at(deep, thing, (1, 1, 2, 1, 1)) for thing in things]
+        self.assertTrue(all(is_thing(deep, thing) for thing in things))
+        self.assertEqual(parts[0][3], parts[1][3])
+        self.assertNotEqual(parts[0][0], parts[1][0])
+        framed = one(("row", (one_bit, ("sized", ("width", 4), ("row", (three, items, ("sized", ("table", ((4, "0"), (6, "1"))), ("row", (items, W2)))))))))
+        for sizes, start in (((1, 10, 3, 4), 3 + 4 + 4 + 1 + 1 + 2), ((2, 12, 4, 4), 4 + 4 + 5 + 2 + 1 + 2), ((2, 13, 4, 6), 4 + 4 + 5 + 1 + 1 + 4)):
+            self.assertEqual(place_by(framed, (1, 1, 2, 1, 1), sizes), start)
+        for sizes in ((1, 9, 3, 4), (3, 10, 3, 4), (1, 10, 2, 4), (1, 10, 3, 5), (1, 10, 4, 6), (1, 10, 3), (1, 10, 3, 4, 0), (10, 1, 3, 4)):
+            with self.assertRaises(NoSpot):
+                place_by(framed, (1, 1, 2, 1, 1), sizes)
+
     def test_examples(self):
         sheet = ("t", (("t", ("sized", ("width", 3), ("row", (("until", "1", ("bits", "0")), ("width", 2))))),))
         self.assertEqual([two_places(sheet, (1, 1)), place_by(sheet, (1, 1), (5,)), spot_stretch(sheet, (((), ()), 2), (1, 1)), spot_sizes(sheet, (((), ()), 2), (1, 1))], [None, 6, (6, 8), (5,)])

@@ -157,12 +157,44 @@ class SureTest(unittest.TestCase):
         inner = (("one", (("", (("sized", 6, ("tuple", (("sized", 3, ("tuple", (("call", 2),))), ("tuple", (("call", 2),))))),)),)), BIT, LIST)
         self.assertEqual(self.judge(inner, begun(inner)[1])[0], ("tuple", (("tuple", (ANY,)), ("tuple", (ANY,)))))
 
+    def test_rules_that_call_one_another(self):
+        """What a rule gives may grow late, and through any number of rules."""
+        ring = (("one", (("1", (("tuple", (("call", 3),)),)), ("0", (("put", ()),)))), BIT, ("one", (("", (("call", 1),)),)), ("one", (("0", (("call", 2),)), ("1", (("label", "x", ("call", 0)),)))))
+        self.assertEqual(self.judge(ring, begun(ring)[1])[0], ("begins", ()))
+        self.assertEqual(self.judge(ring, held_behind(ring, "10"))[0], ("tuple", (ANY,)))
+        back = (("one", (("1", (("tuple", (("call", 2), ("put", "p"))),)),)), BIT, ("one", (("", (("label", "y", ("call", 1)),)),)))
+        self.assertEqual(self.judge(back, begun(back)[1])[0], ("tuple", (("tuple", (("is", "y"), ANY)), ("is", "p"))))
+
+    def test_sized_acts_of_rules(self):
+        """Sized acts of rules that are called inside of sized frames."""
+        pair = ("tuple", (("call", 2), ("call", 2)))
+        rules = (("one", (("1", (("sized", 2, pair),)), ("01", (("sized", 1, ("call", 2)),)))), BIT, ("one", (("1", (("sized", 2, pair),)), ("0", (("label", "z", ("sized", 2, pair)),)))))
+        code = (("one", (("", (("sized", 6, ("tuple", (("call", 1), ("call", 3)))),)),)),) + rules
+        for bits in ("", "0", "1", "11", "111", "0101", "1110"):
+            if held_behind(code, bits) is not None:
+                self.judge(code, held_behind(code, bits))
+        self.assertEqual(sure(code, begun(code)[1]), ("tuple", (ANY, ("tuple", (ANY, ANY)))))
+        free = (("one", (("1", (("tuple", (("call", 1), ("call", 3))),)), ("0", (PUT,)))),) + rules
+        for bits in ("", "1", "11", "101"):
+            self.judge(free, held_behind(free, bits))
+
     def test_checks(self):
         code = (("one", (("", (("checked", PARITY, 0, ("sized", 3, ("checked", PARITY, 1, ("tuple", (("call", 1), ("call", 1)))))),)),)), BIT)
         for bits in ("", "0", "1", "01", "011", "010"):
             if held_behind(code, bits) is not None:
                 self.judge(code, held_behind(code, bits))
         self.assertEqual(sure(code, held_behind(code, "01")), ("is", (0, 1)))
+        code = (("one", (("", (("tuple", (("label", "c", ("checked", ((0, 0, "10"),), 0, ("call", 1))), ("call", 1), ("call", 1))),)),)), BIT)
+        for bits, form in (("", ("tuple", (("tuple", (("is", "c"), ANY)), ANY, ANY))), ("1", ("tuple", (("is", ("c", 1)), ANY, ANY))), ("01", ("tuple", (("is", ("c", 0)), ANY, ANY))), ("0101", ("tuple", (("is", ("c", 0)), ("is", 1), ANY)))):
+            self.assertEqual(self.judge(code, held_behind(code, bits))[0], form)
+
+    def test_checks_being_read(self):
+        code = (("one", (("", (("tuple", (("checked", ((0, 0, "10"),), 0, ("call", 1)), ("call", 1))),)),)), BIT)
+        for bits, form in (("", ("tuple", (ANY, ANY))), ("1", ("tuple", (("is", 1), ANY))), ("11", ("tuple", (("is", 1), ANY)))):
+            self.assertEqual(self.judge(code, held_behind(code, bits))[0], form)
+        framed = (("one", (("", (("sized", 4, code[0][1][0][1][0]),)),)), BIT)
+        for bits in ("", "1", "11", "110"):
+            self.judge(framed, held_behind(framed, bits))
 
     def test_deep_things(self):
         code = code_of(TREE)
