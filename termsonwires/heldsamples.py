@@ -31,14 +31,13 @@ class HeldSamples:
 
     def __init__(self, run):
         self.run = run
-        self.free = FreeSamples(run.coded)
         sized = [k for k in range(len(run.frames)) if run.frames[k].word == "sized"]
-        if sized:
-            self.outer = run.frames[:sized[0]][::-1]
-            self.core = self.sized_core(sized)
-        else:
-            self.outer = run.frames[::-1]
-            self.core = self.reading_core()
+        self.outer = run.frames[:min(sized, default=len(run.frames))][::-1]
+        asked = [act for frame in self.outer for act in frame.acts]
+        if not sized and run.reading[0] == "rule":
+            asked.append(("call", run.reading[1]))
+        self.free = FreeSamples(run.coded, asked)
+        self.core = self.sized_core(sized) if sized else self.reading_core()
         self.parts = [[self.free.act_batch(act) for act in acts_of(frame)] for frame in self.outer]
 
     def reading_core(self):

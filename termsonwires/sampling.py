@@ -91,22 +91,50 @@ class ExactSamples(Solver):
         return grown
 
 
-class FreeSamples:
-    """The batches of all words of rules; they grow from the least word of each until nothing is added.
+def free_calls(acts):
+    """The numbers of the rules that are called in the acts; what is sized is told by its length alone."""
+    found = []
+    waiting = list(acts)
+    while waiting:
+        act = waiting.pop()
+        if act[0] == "call":
+            found.append(act[1])
+        elif act[0] == "tuple":
+            waiting.extend(act[1])
+        elif act[0] in ("label", "checked"):
+            waiting.append(act[-1])
+    return found
 
-    The code is sound, so each row has a word.
+
+def rules_behind(code, acts):
+    """The rules that are called in the acts, or in rows of these rules, ascending."""
+    found = {}
+    waiting = free_calls(acts)
+    while waiting:
+        number = waiting.pop()
+        if number not in found:
+            found[number] = True
+            for _, inner in code[number][1]:
+                waiting.extend(free_calls(inner))
+    return sorted(found)
+
+
+class FreeSamples:
+    """The batches of all words of the rules that some acts ask for; the code is sound, so each row has a word.
+
+    They grow from the least word of each rule until nothing is added.
     """
 
-    def __init__(self, coded):
+    def __init__(self, coded, acts):
         self.coded = coded
         self.exact = ExactSamples(coded)
-        self.batches = [Batch([], []) for _ in coded.code]
-        self.started = [not lengths for lengths in coded.lengths]
+        self.batches = {number: Batch([], []) for number in rules_behind(coded.code, acts)}
         coded.find_least()
-        while not all(self.started):
-            for number in range(len(coded.code)):
-                if not self.started[number]:
-                    self.start_rule(number)
+        waiting = list(self.batches)
+        while waiting:
+            for number in waiting:
+                self.start_rule(number)
+            waiting = [number for number in waiting if self.batches[number].samples == []]
         self.grow()
 
     def start_rule(self, number):
@@ -115,33 +143,22 @@ class FreeSamples:
             many = self.coded.acts_least(acts)
             if len(head) + many == self.coded.least[number] and self.are_started(acts):
                 self.batches[number].note_all(head, self.acts_batch(acts).samples[:1])
-                self.started[number] = True
                 return
 
     def are_started(self, acts):
-        """Whether what the acts call has a sample; what is sized asks for none."""
-        waiting = list(acts)
-        while waiting:
-            act = waiting.pop()
-            if act[0] == "call":
-                if not self.started[act[1]]:
-                    return False
-            elif act[0] == "tuple":
-                waiting.extend(act[1])
-            elif act[0] in ("label", "checked"):
-                waiting.append(act[-1])
-        return True
+        """Whether what the acts call has a sample."""
+        return all([self.batches[number].samples != [] for number in free_calls(acts)])
 
     def grow(self):
         """A row is looked at again when a rule that it calls has a new sample."""
         code = self.coded.code
-        waiting = [(number, k) for number in range(len(code)) for k in range(len(code[number][1]))]
+        waiting = [(number, k) for number in self.batches for k in range(len(code[number][1]))]
         due = {place: True for place in waiting}
         while waiting:
             place = waiting.pop()
             due[place] = False
             if self.grow_row(place[0], place[1]):
-                more = [other for other in self.coded.callers[place[0]] if not due[other]]
+                more = [other for other in self.coded.callers[place[0]] if not due.get(other, True)]
                 for other in more:
                     due[other] = True
                 waiting.extend(more)
