@@ -92,6 +92,13 @@ def is_deep_plain(value):
     return True
 
 
+def with_new_lists(value):
+    """The value with a new list in the place of each list in it, so that an error keeps none that was handed in."""
+    if is_list(value):
+        return [with_new_lists(part) for part in value]
+    return tuple([with_new_lists(part) for part in value]) if is_tuple(value) else value
+
+
 def is_ascending(row):
     """Duplicates are not ascending."""
     return all([row[k] < row[k + 1] for k in range(len(row) - 1)])

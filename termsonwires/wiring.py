@@ -7,6 +7,7 @@ from termsonwires.errors import InvalidWire, UnknownLine
 from termsonwires.faultrows import faultless_table, one_begins_another, sound_table, told_faults
 from termsonwires.flows import Flow, is_stream_of, new_stream
 from termsonwires.kinds import LETTERS, is_ascending, is_bits, is_integer, is_string, is_tuple, is_tuple_of, is_within
+from termsonwires.kinds import with_new_lists
 from termsonwires.nodes import Nodes
 from termsonwires.numberwords import number_words
 from termsonwires.termparts import sheet_of_term
@@ -70,7 +71,7 @@ class Wired:
 
     def need_line(self, name):
         if not is_string(name) or name not in self.names:
-            raise UnknownLine(name)
+            raise UnknownLine(with_new_lists(name))
 
     def packet(self, name, bits):
         return self.tags[name] + self.sizes[len(bits)] + bits

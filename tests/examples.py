@@ -1,6 +1,8 @@
 """The sheets of the document's examples, and values that are of no kind that functions ask for."""
 
 from termsonwires import errors
+from termsonwires.bench import Bench
+from termsonwires.console import Console
 
 TREE = ("tree", (
     ("tree", ("either", (("leaf", "0", ("width", 2)), ("node", "1", ("row", (("ref", "tree"), ("ref", "tree"))))))),))
@@ -40,9 +42,11 @@ def nested_list(depth):
     return value
 
 
+BENCH = Bench((("width", 2), (("a", "", EVEN),)))
 ANY_VALUES = [
     0, 1, -1, 10 ** 89, -(10 ** 89), True, False, None, "", "a", "root a\n", (), [], ((),), [[]], ("bits",), ("bits", 0),
     (None, None), ("a", ()), ("a", (("a", ("ref", "a"), 1),)), nested(139), nested_list(139), tuple(range(9000)),
     list(range(9000)), errors.InvalidSheet("x"), errors.TooMany(1),
     SubTuple(), SubStr("a"), SubInt(1), SubList(), nested(139, "x"), ("row", nested(138)),
+    Console(), BENCH, (BENCH,), [BENCH], (BENCH, BENCH), ("put", BENCH), (((BENCH, BENCH), BENCH), BENCH), ("bits", BENCH), (BENCH, ()),
 ]

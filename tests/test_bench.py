@@ -159,7 +159,8 @@ class BenchTest(unittest.TestCase):
             with self.assertRaises(error) as caught:
                 call(*value)
             if error is UnknownLine:
-                self.assertIs(caught.exception.name, value[0])
+                self.assertEqual(caught.exception.name, value[0])
+                self.assertTrue(type(value[0]) is not list or caught.exception.name is not value[0])
             self.assertEqual(told(bench), before)
 
     def test_refusals(self):
@@ -169,7 +170,7 @@ class BenchTest(unittest.TestCase):
         bench.pack("a", 3)
         bench.pack("b", 2)
         bench.take(3)
-        strange = [None, "", "d", 1, True, ("a",), [], SubStr("a"), SubStr(""), "A"]
+        strange = [None, "", "d", 1, True, ("a",), [], ["a", ([],)], SubStr("a"), SubStr(""), "A"]
         for call in (lambda name: bench.send(name, None), lambda name: bench.pack(name, None), bench.queue, bench.things, bench.sure):
             self.check(bench, UnknownLine, call, *[(name,) for name in strange])
         self.check(bench, UnknownLine, bench.renew, *[(name,) for name in strange if name != "" or type(name) is not str])
