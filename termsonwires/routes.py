@@ -83,7 +83,7 @@ class Routes:
                         return (k, size, filling)
         return None
 
-    def word_inside(self, k, size, filling, ahead):
+    def word_inside(self, k, filling, ahead):
         """A word of what is inside of the frame of the stretch, with this length ahead."""
         known, inner, total = filling
         stretch = self.stretches[k]
@@ -94,7 +94,7 @@ class Routes:
 
     def some_word(self, k, size):
         filling = self.fillings(k, size)[0]
-        return self.word_inside(k, size, filling, self.first_ahead(k, filling))
+        return self.word_inside(k, filling, self.first_ahead(k, filling))
 
     def first_ahead(self, k, filling):
         return list(self.stretches[k].totals[filling[2]])[0]
@@ -118,7 +118,7 @@ class Routes:
             return None
         k, size, filling = place
         aheads = list(self.stretches[k].totals[filling[2]])[:2]
-        return [self.whole_word(k, size, self.word_inside(k, size, filling, ahead)) for ahead in aheads]
+        return [self.whole_word(k, size, self.word_inside(k, filling, ahead)) for ahead in aheads]
 
     def many_sizes(self):
         return sum([len(stretch.known) for stretch in self.stretches]) + len(self.stretches) - 1
